@@ -1,0 +1,1 @@
+"""Nets of knots and lines."""
