@@ -41,6 +41,50 @@ NETS = """
 [((0, 1), (0, 2), (0, 3), (1, 2), (1, 3)), ((0, 1), (0, 1), (0, 2), (1, 2), (1, 2)), 6]
 """
 
+RINGS = """
+>>> [rings(BOTH), len(rings(FANO)), len(cuts(FANO)), is_ring(FANO, (0, 1, 2, 3, 4, 5, 6)), is_cut(ROUNDS, (1, 2, 3, 4))]
+[((0, 1), (0, 2, 4), (0, 3, 4), (1, 2, 4), (1, 3, 4), (2, 3)), 14, 7, False, True]
+>>> [ring_parts(BOTH, (0, 1, 2, 3)), painted(ROUNDS, 0, (1, 3)), is_painted(ROUNDS, 0, (1,), ("cut", (0, 2, 3, 5))), painted(BOTH, 4, (0,))]
+[((0, 1), (2, 3)), ('ring', (0, 1, 3)), True, ('cut', (2, 3, 4))]
+>>> [exchanged(ROUNDS, (0, 1, 3), (0, 2, 4), 0, 1), size_counts(FANO), size_counts(opposite(FANO))]
+[(1, 2, 3, 4), (1, 0, 0, 7, 7, 0, 0, 1), (1, 0, 0, 0, 7, 0, 0, 0)]
+>>> [rings(Table(2, ((1,),))), cuts(Table(2, ((1,),))), ring_parts(ROUNDS, ())]
+[((1,),), ((0,),), ()]
+"""
+
+LESSER = """
+>>> [lesser(BOTH, ("out", 0)).form, lesser(BOTH, ("join", 4)).form, stays(BOTH, (("out", 1), ("join", 1)))]
+[((0, 2, 3), (1, 2)), ((0, 3), (1, 3), (2, 3)), (0, 3, 4)]
+>>> [gathered(BOTH, (("out", 1), ("join", 1))), is_steps_for(BOTH, (1,), (2,), (("join", 2), ("out", 1)))]
+[((1,), (2,)), True]
+>>> [is_tidy(BOTH, (), (0, 1), ((1,), (0,))), widened(Table(2, ((0, 1),)), (0,)).form]
+[True, ((0, 2), (1, 2))]
+>>> steps_to(Table(2, ((0, 1),)), Table(1, ((0,),)))
+(('join', 0), ('join', 1))
+>>> lesser(Table(1, ()), ("out", 0))
+raises Refused(('nothing',))
+"""
+
+PARTS = """
+>>> [parts(BOTH), parts(Table(3, ((1,),))), does_hang(ROUNDS), part_table(beside(BOTH, ROUNDS), 1) == (ROUNDS, (5, 6, 7, 8, 9, 10))]
+[((0, 1, 2, 3, 4),), ((0,), (1,), (2,)), True, True]
+>>> [is_seam(BOTH, (0, 1)), is_seam(ROUNDS, (0, 1, 3)), tied(Table(3, ((0, 1), (0, 2))), 2, Table(4, ((0, 1), (0, 2, 3))), 3) == BOTH]
+[True, False, True]
+>>> taken_apart(BOTH, (0, 1)) == (Table(3, ((0, 1), (0, 2))), Table(4, ((0, 1), (0, 2, 3))))
+True
+>>> tied(Table(1, ()), 0, Table(1, ((0,),)), 0)
+raises Refused(('nothing',))
+"""
+
+TREES = """
+>>> [rank(ROUNDS, (0, 1, 3)), is_tree(ROUNDS, (0, 1, 2)), is_tree(FANO, (0, 1, 3)), len(tree_of(FANO))]
+[2, True, False, 3]
+>>> [own_ring(ROUNDS, (0, 1, 2), 5), own_cut(ROUNDS, (0, 1, 2), 0), is_exchange(ROUNDS, (0, 1, 2), (0, 3, 4), 1, 3)]
+[(1, 2, 5), (0, 3, 4), True]
+>>> [is_least_tree(ROUNDS, (1, 1, 1, 2, 2, 2), (0, 1, 2)), is_least_tree(ROUNDS, (5, 1, 1, 2, 2, 2), (0, 1, 2))]
+[True, False]
+"""
+
 
 def names_of(modules):
     """All public names of the modules, and of the errors."""
@@ -89,3 +133,15 @@ class Examples(unittest.TestCase):
 
     def test_nets(self):
         self.check(NETS, "net.nets")
+
+    def test_rings(self):
+        self.check(RINGS, "table.rings")
+
+    def test_lesser(self):
+        self.check(LESSER, "table.lesser")
+
+    def test_parts(self):
+        self.check(PARTS, "table.parts")
+
+    def test_trees(self):
+        self.check(TREES, "table.trees")
