@@ -20,7 +20,6 @@ def shared_suites():
                 # Folders may have files of one name: each is imported anew.
                 sys.modules.pop(name, None)
                 suites.append(loader.loadTestsFromName(name))
-            sys.path.remove(folder)
     return suites
 
 

@@ -178,6 +178,16 @@ class Walks(Case):
                 self.check_judged(is_walk, (net, lot), itertools.permutations(lot),
                                   lambda value: does_walk(net, lot, value))
 
+    def test_longer_rings(self):
+        for knots in (5, 6):
+            net = Net(knots, tuple((k, k + 1) for k in range(knots - 1)) + ((0, knots - 1),))
+            ring = tuple(range(knots))
+            taken = self.check_judged(is_walk, (net, ring), itertools.permutations(ring),
+                                      lambda value: does_walk(net, ring, value))
+            self.assertEqual(taken, 2 * knots)
+        # Each line's ends sum up as if one came back, but the lines do not stand one behind the other.
+        self.assertIs(is_walk(net, ring, (0, 1, 5, 2, 4, 3)), False)
+
     def test_judge_takes_nothing_else(self):
         ring = (1, 2, 3, 4)
         self.check_takes(is_walk, (WHEEL, ring), (3, 1, 2, 4))
