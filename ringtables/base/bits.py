@@ -3,6 +3,9 @@
 # Masks can carry a second lot above the first one, moved up by this many bits; knots need 25.
 SPAN = 32
 
+# Integers that are passed have at most sixty digits.
+MOST_WHOLE = 10 ** 60 - 1
+
 
 def is_whole(value):
     """Tell whether the value is an integer: True and False are none."""
@@ -34,6 +37,11 @@ def is_tuple_of(value, many):
 def is_worded(value, word):
     """Tell whether the value is a pair of this word and one thing more."""
     return is_tuple_of(value, 2) and isinstance(value[0], str) and value[0] == word
+
+
+def is_row(value, many):
+    """Tell whether the value is a tuple of so many integers of at most sixty digits."""
+    return is_tuple_of(value, many) and all([is_between(number, -MOST_WHOLE, MOST_WHOLE) for number in value])
 
 
 def mask_of(lot):

@@ -1,11 +1,8 @@
 """Trees of tables, their own rings and own cuts, and exchanges."""
 
-from ringtables.base.bits import is_ascending, is_tuple_of, is_whole, lot_of, mask_of, within
+from ringtables.base.bits import is_ascending, is_row, is_tuple_of, is_whole, lot_of, mask_of, within
 from ringtables.errors import InvalidOperation, InvalidRow
 from ringtables.table.tables import demand_line, demand_lot, demand_table, opposite_rows, rows_of
-
-# Integers that are passed have at most sixty digits.
-MOST_WHOLE = 10 ** 60 - 1
 
 
 def rank(table, lot):
@@ -152,7 +149,5 @@ def _demand_tree_line(table, tree, line):
 
 
 def _demand_weights(table, weights):
-    if not is_tuple_of(weights, table.many):
-        raise InvalidRow("weights are a tuple of an integer for each line")
-    if not all([is_whole(weight) and -MOST_WHOLE <= weight <= MOST_WHOLE for weight in weights]):
-        raise InvalidRow("weights are integers of at most sixty digits")
+    if not is_row(weights, table.many):
+        raise InvalidRow("weights are a tuple of an integer of at most sixty digits for each line")
