@@ -4,7 +4,7 @@ import itertools
 import random
 import unittest
 
-from ringtables.errors import InvalidLot, InvalidNumber, Refused, TooMany
+from ringtables.errors import InvalidLot, InvalidNumber, InvalidOperation, Refused, TooMany
 from ringtables.net.nets import Net
 from ringtables.table.tables import Table
 
@@ -12,6 +12,20 @@ FANO = Table(7, ((0, 1, 3), (1, 2, 4), (2, 3, 5), (3, 4, 6)))
 WHEEL = Net(4, ((0, 1), (0, 2), (0, 3), (1, 2), (1, 3), (2, 3)))
 ROUNDS = Table(6, ((0, 1, 3), (0, 2, 4), (1, 2, 5)))
 BOTH = Table(5, ((0, 1), (2, 3), (0, 2, 4)))
+STARS = Table(10, ((0, 1, 2, 3), (0, 4, 5, 6), (1, 4, 7, 8), (2, 5, 7, 9)))
+SPLIT = Table(7, ((0, 1, 3, 6), (0, 2, 4), (1, 2, 5, 6)))
+CROSS = (1, 2, 3, 4)
+
+# Great tables and nets.
+MANY = tuple(range(24))
+SINGLES = tuple((k,) for k in range(24))
+NONE24 = Table(24, ())
+ALL24 = Table(24, SINGLES)
+EVEN24 = Table(24, tuple((k, k + 1) for k in range(23)))
+ONE24 = Table(24, (MANY,))
+TWOS = Table(24, tuple((2 * k, 2 * k + 1) for k in range(12)))
+NONE1, ALL1 = Table(1, ()), Table(1, ((0,),))
+SPOKES = Net(13, tuple((0, k) for k in range(1, 13)) + tuple(tuple(sorted((k, k % 12 + 1))) for k in range(1, 13)))
 
 
 # Oracles: lots are tuples, sums are sets of them, and everything is tried.
@@ -61,8 +75,136 @@ def table_by(many, sums):
     return Table(many, form_by(sums))
 
 
+def parts_by(table):
+    """The parts by rings alone: lines hang together if some ring has both."""
+    ways = rings_of(table_sums(table))
+    groups = []
+    for line in range(table.many):
+        group = {line}.union(*[ring for ring in ways if line in ring])
+        groups.append(tuple(sorted(group)))
+    return tuple(sorted(set(groups)))
+
+
 def told_anew(lot, stay):
     return tuple(stay.index(line) for line in lot)
+
+
+# Oracles of cuts.
+
+def cuts_by(table):
+    return sorted(rings_of(opposite_of(table.many, table.lots)))
+
+
+def bridges_by(table, cut):
+    """The parts of what is left without the cut, by its rings."""
+    ways = rings_of({lot for lot in table_sums(table) if not set(lot) & set(cut)})
+    rest = [line for line in range(table.many) if line not in cut]
+    return tuple(sorted({tuple(sorted({line}.union(*[ring for ring in ways if line in ring]))) for line in rest}))
+
+
+def segments_by(table, cut, bridge):
+    """The lots of lines of the cut each two of which are a sum when all lines but those of both lots are joined."""
+    sums = {tuple(line for line in lot if line in bridge or line in cut) for lot in table_sums(table)}
+    return tuple(sorted({tuple(f for f in cut if f == e or tuple(sorted((e, f))) in sums) for e in cut}))
+
+
+def facing_by(table, cut, bridge, further):
+    """All right pairs of segments of two bridges, told as lots."""
+    return {(one, other) for one in segments_by(table, cut, bridge) for other in segments_by(table, cut, further)
+            if set(one) | set(other) == set(cut)}
+
+
+def clashes_by(table, cut):
+    lots = bridges_by(table, cut)
+    return tuple((b, c) for b in range(len(lots)) for c in range(b + 1, len(lots))
+                 if not facing_by(table, cut, lots[b], lots[c]))
+
+
+def sides_by(many, pairs):
+    return [bits for bits in itertools.product((0, 1), repeat=many) if all(bits[b] != bits[c] for b, c in pairs)]
+
+
+def is_row_by(many, pairs, row):
+    """Whether these are unlike bridges, an odd number, each clashing with the next one, the last one with the first."""
+    if len(row) % 2 == 0 or len(set(row)) != len(row) or not set(row) <= set(range(many)):
+        return False
+    return all(tuple(sorted((row[k - 1], row[k]))) in pairs for k in range(len(row)))
+
+
+def rows_by(many, pairs):
+    rows = [row for count in range(1, many + 1, 2) for row in itertools.permutations(range(many), count)]
+    return [row for row in rows if is_row_by(many, pairs, row)]
+
+
+# Oracles of nets.
+
+def size_counts_by(table):
+    sizes = [len(lot) for lot in table_sums(table)]
+    return tuple(sizes.count(k) for k in range(table.many + 1))
+
+
+def is_net_by(table):
+    """Whether a table of at most eight lines is a net's: none of its tables of seven lines is one of two told ones.
+
+    These two are told by their sizes alone: the one has least distance 3, the other one sums of four lines only.
+    """
+    if table.many < 8:
+        return size_counts_by(table) not in ((1, 0, 0, 7, 7, 0, 0, 1), (1, 0, 0, 0, 7, 0, 0, 0))
+    steps = [pair for line in range(8) for pair in (((line,), ()), ((), (line,)))]
+    return all(is_net_by(table_by(7, lesser_sums(table, *pair))) for pair in steps)
+
+
+def whole_net(knots):
+    """All lines between so many knots."""
+    return Net(knots, tuple(itertools.combinations(range(knots), 2)))
+
+
+def renamed_net(chance, net):
+    """The net with its knots renamed, and some knots without lines."""
+    knots = min(25, net.knots + chance.randint(0, 2))
+    names = chance.sample(range(knots), net.knots)
+    return Net(knots, tuple(tuple(sorted((names[a], names[b]))) for a, b in net.lines))
+
+
+def twisted_net(chance, net):
+    """The net with what hangs together beyond two knots turned round between them: its table is the same."""
+    if net.knots < 3:
+        return net
+    low, high = chance.sample(range(net.knots), 2)
+    start = chance.choice([knot for knot in range(net.knots) if knot not in (low, high)])
+    lot, before = {start}, set()
+    while lot != before:
+        before = set(lot)
+        for a, b in net.lines:
+            if (a in lot or b in lot) and low != high:
+                lot |= {a, b} - {low, high}
+    names = {low: high, high: low}
+    lines = [tuple(sorted((names.get(a, a), names.get(b, b)))) if a in lot or b in lot else (a, b)
+             for a, b in net.lines]
+    return Net(net.knots, tuple(lines))
+
+
+def unlike_net(chance, net):
+    """Some net with the same table."""
+    for _ in range(chance.randint(0, 4)):
+        net = twisted_net(chance, net)
+    return renamed_net(chance, net)
+
+
+def hanging_net(chance, knots, lines):
+    """A net whose table hangs together: a ring, and ways put on to it."""
+    many = chance.randint(2, knots)
+    pairs = [(k, k + 1) for k in range(many - 1)] + [(0, many - 1)]
+    while many < knots and len(pairs) + 3 < lines and chance.random() < 0.7:
+        inner = chance.randint(1, min(2, knots - many))
+        way = chance.sample(range(many), 2)
+        way = [way[0]] + list(range(many, many + inner)) + [way[1]]
+        pairs += [(a, b) for a, b in zip(way, way[1:])]
+        many += inner
+    while len(pairs) < lines and chance.random() < 0.8:
+        pairs.append(tuple(chance.sample(range(many), 2)))
+    chance.shuffle(pairs)
+    return Net(many, tuple(tuple(sorted(pair)) for pair in pairs))
 
 
 def lesser_sums(table, outs, joins):
@@ -214,14 +356,24 @@ class Case(unittest.TestCase):
                 args = goods[:j] + (value,) + goods[j + 1:k] + (other,) + goods[k + 1:]
                 self.check_error(error, self._kept(error, value), function, *args)
 
-    def check_never(self, judge, goods):
-        """The judge raises for no value."""
+    def check_cut_wrong(self, function, goods, wrongs, at=1, no_cuts=None):
+        """Like check_wrong; the argument `at` is a cut of the first one, or of its table."""
+        told = list(wrongs)
+        many = len(goods[0].lines) if isinstance(goods[0], Net) else goods[0].many
+        told[at] = (InvalidLot, not_lots(many))
+        self.check_wrong(function, goods, told)
+        told[at] = (InvalidOperation, no_cuts)
+        self.check_wrong(function, goods, told)
+
+    def check_never(self, judge, goods, none=False):
+        """The judge raises for no value; `none` tells whether None is a right one."""
         for value in STRANGE:
             before = repr(value)
             self.assertIn(type(judge(*goods, value)), (bool,), (judge.__name__, value))
             self.assertEqual(repr(value), before)
-        for value in (None, True, "sum", [], {}, FANO, [()], InvalidLot("a lot")):
+        for value in (True, "sum", [], {}, FANO, [()], InvalidLot("a lot")):
             self.assertIs(judge(*goods, value), False, (judge.__name__, value))
+        self.assertIs(judge(*goods, None), none)
 
     def check_takes(self, judge, goods, value):
         """The judge takes the value, and nothing that differs from it in kind."""

@@ -8,7 +8,8 @@ from ringtables.table.parts import beside, does_hang, is_seam, part_table, parts
 from ringtables.table.rings import cuts, rings
 from ringtables.table.tables import Table, opposite, relined
 from tests.support import BOTH, FANO, NOT_TABLES, ROUNDS, Case, add, every_table, form_by, not_lots, not_numbers
-from tests.support import picked_nets, picked_tables, rings_of, small_tables, subsets, sums_of, table_sums, told_anew
+from tests.support import parts_by, picked_nets, picked_tables, small_tables, subsets, sums_of, table_sums
+from tests.support import told_anew
 
 MANY = tuple(range(24))
 SINGLES = tuple((k,) for k in range(24))
@@ -21,16 +22,6 @@ HALF = Table(12, (tuple(range(12)),))
 NONE1, ALL1 = Table(1, ()), Table(1, ((0,),))
 TABLES = small_tables(4) + picked_tables(13, 25, 5, 7) + [FANO, ROUNDS, BOTH]
 NOTHING = {"reason": ("nothing",)}
-
-
-def parts_by(table):
-    """The parts by rings alone: lines hang together if some ring has both."""
-    ways = rings_of(table_sums(table))
-    groups = []
-    for line in range(table.many):
-        group = {line}.union(*[ring for ring in ways if line in ring])
-        groups.append(tuple(sorted(group)))
-    return tuple(sorted(set(groups)))
 
 
 def tied_sums(one, line, other, further):

@@ -34,9 +34,9 @@ def is_tuple_of(value, many):
     return isinstance(value, tuple) and len(value) == many
 
 
-def is_worded(value, word):
-    """Tell whether the value is a pair of this word and one thing more."""
-    return is_tuple_of(value, 2) and isinstance(value[0], str) and value[0] == word
+def is_worded(value, word, many=2):
+    """Tell whether the value is a tuple with so many items, this word being the first one."""
+    return is_tuple_of(value, many) and isinstance(value[0], str) and value[0] == word
 
 
 def is_row(value, many):
@@ -140,6 +140,13 @@ def merged(masks):
                 whole |= group
         groups = [group for group in groups if not group & mask] + [whole]
     return sorted(groups, key=lambda group: group & -group)
+
+
+def hanging(rows, lines):
+    """The masks of the lines that hang together by the rows of a form, by ascending heads."""
+    groups = merged(rows)
+    alone = [1 << line for line in lot_of(lines & ~sum(groups))]
+    return sorted(groups + alone, key=lambda group: group & -group)
 
 
 def renumbered(mask, lines):

@@ -65,7 +65,7 @@ def steps_for(table, outs, joins):
 def is_steps_for(table, outs, joins, value):
     """Tell whether the value is such steps."""
     _demand_outs_joins(table, outs, joins)
-    told = _followed(table, value)
+    told = followed(table, value)
     return told is not None and told[:2] == (outs, joins)
 
 
@@ -130,6 +130,20 @@ def steps_to(table, other):
     return tuple([step for step in steps if lesser(table, step) == other])
 
 
+def followed(table, steps):
+    """The lines left out, joined, and staying behind the steps; None unless these are steps."""
+    if not isinstance(steps, tuple):
+        return None
+    found = {"out": [], "join": []}
+    stay = list(range(table.many))
+    for step in steps:
+        if len(stay) == 1 or not _is_step(len(stay), step):
+            return None
+        word, number = step
+        found[word].append(stay.pop(number))
+    return (tuple(sorted(found["out"])), tuple(sorted(found["join"])), tuple(stay))
+
+
 def _lesser_by(table, outs, joins):
     stay = [line for line in range(table.many) if line not in outs and line not in joins]
     rows = within(rows_of(table), ~mask_of(outs))
@@ -144,23 +158,9 @@ def _is_step(many, value):
     return (is_worded(value, "out") or is_worded(value, "join")) and is_between(value[1], 0, many - 1)
 
 
-def _followed(table, steps):
-    """The lines left out, joined, and staying behind the steps; None unless these are steps."""
-    if not isinstance(steps, tuple):
-        return None
-    found = {"out": [], "join": []}
-    stay = list(range(table.many))
-    for step in steps:
-        if len(stay) == 1 or not _is_step(len(stay), step):
-            return None
-        word, number = step
-        found[word].append(stay.pop(number))
-    return (tuple(sorted(found["out"])), tuple(sorted(found["join"])), tuple(stay))
-
-
 def _demand_steps(table, steps):
     demand_table(table)
-    told = _followed(table, steps)
+    told = followed(table, steps)
     if told is None:
         raise InvalidOperation("steps are a tuple of steps, each one of the table that then stands")
     return told

@@ -1,16 +1,15 @@
 """Parts of tables, and tables put together and taken apart."""
 
-from ringtables.base.bits import is_ascending, is_between, lots_of, mask_of, merged, reduced, renumbered, within
+from ringtables.base.bits import hanging, is_ascending, is_between, lots_of, mask_of, reduced, renumbered, within
 from ringtables.base.lots import MOST_LINES
 from ringtables.errors import InvalidNumber, InvalidOperation, Refused, TooMany
-from ringtables.table.tables import demand_line, demand_table, made, rows_of
+from ringtables.table.tables import demand_line, demand_table, every_line, made, rows_of
 
 
 def parts(table):
     """The ascending tuple of the lots of lines that hang together."""
     demand_table(table)
-    alone = [1 << line for line in range(table.many)]
-    return lots_of(merged(alone + rows_of(table)))
+    return lots_of(hanging(rows_of(table), every_line(table)))
 
 
 def does_hang(table):

@@ -122,6 +122,14 @@ def _weight(many, first, size):
     return sum(ways[::2]) - sum(ways[1::2])
 
 
+def demand_cut(table, cut):
+    """Raise InvalidLot unless this is a lot of lines of the table, InvalidOperation unless it is a cut."""
+    demand_table(table)
+    demand_lot(table, cut)
+    if not is_least(opposite_rows(table), mask_of(cut)):
+        raise InvalidOperation("a cut of the table is asked for")
+
+
 def _demand_sum(table, lot):
     # is_sum has the checks of the table and the lot.
     if not is_sum(table, lot):

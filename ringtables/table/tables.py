@@ -154,13 +154,18 @@ def opposite_rows(table):
     return kernel(table.many, rows_of(table))
 
 
+def every_line(table):
+    """The mask of all lines."""
+    return (1 << table.many) - 1
+
+
 def made(many, masks):
     """The table of so many lines with the sums of the masks, its form as lots."""
     return Table(many, lots_of(reduced(masks)))
 
 
 def sum_masks(table):
-    """The masks of all sums, in any sequence."""
+    """The masks of all sums: at each index the sum of the rows whose bits it has."""
     if 1 << table.size > MOST_SUMS:
         raise TooMany(MOST_SUMS)
     masks = [0]

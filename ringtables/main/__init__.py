@@ -1,0 +1,1 @@
+"""Nets of tables, or why there are none."""
