@@ -139,6 +139,57 @@ True
 True
 """
 
+BARS = """
+>>> FIVE, SIX = told_table("five"), told_table("six")
+>>> [told_table("seven") == FANO, name_count(FANO, "seven"), FIVE == STARS, word_of(ROUNDS), name_count(FIVE, "six")]
+[True, 168, True, None, 0]
+>>> LONGER = Table(8, ((0, 1, 3), (1, 2, 4), (2, 3, 5), (3, 4, 6), (0, 7)))
+>>> [is_bar(LONGER, ("seven", (("out", 0),), (6, 0, 1, 2, 3, 4, 5))), is_bar(LONGER, ("seven", (("join", 7),), (0, 1, 2, 3, 4, 5, 6)))]
+[True, False]
+>>> [net_or_bar(LONGER)[0], is_net_or_bar(ROUNDS, ("net", WHEEL)), is_least(FANO), least_steps(ROUNDS), is_least(LONGER)]
+['bar', True, True, None, False]
+>>> opposite_bar(LONGER, ("seven", (("out", 0),), (6, 0, 1, 2, 3, 4, 5)))
+('fours', (('join', 0),), (6, 0, 1, 2, 3, 4, 5))
+>>> told_table("eight")
+raises UnknownName('eight')
+"""
+
+KINDS = """
+>>> TEN = Table(10, ((0, 5, 6, 9), (1, 5, 6, 7), (2, 6, 7, 8), (3, 7, 8, 9), (4, 5, 8, 9)))
+>>> [kind(one) for one in (ROUNDS, FIVE, opposite(SIX), TEN, FANO)]
+['flat', 'opposite', 'net', 'signed', 'bare']
+>>> [kind_by(("net", "flat")), kind_by(("net", "opposite")), kind_by(("flat", "flat")), kinds_of_parts(Table(3, ((0, 1),)))]
+['net', 'signed', 'flat', ('flat', 'flat')]
+>>> [flat_or_bar(ROUNDS)[0], is_kind_paper(ROUNDS, ("flat", WHEEL, Net(4, ((0, 1), (0, 2), (1, 2), (0, 3), (1, 3), (2, 3)))))]
+['flat', True]
+>>> kind_by(())
+raises InvalidOperation
+"""
+
+FLAT = """
+>>> SIDES = ((0, 1, 3), (0, 2, 4), (1, 2, 5))
+>>> [are_faces(WHEEL, SIDES), outer(WHEEL, SIDES), net_by_faces(WHEEL, SIDES).lines, is_short_lot(WHEEL, SIDES, 3)]
+[True, (3, 4, 5), ((0, 1), (0, 2), (1, 2), (0, 3), (1, 3), (2, 3)), True]
+>>> faces_by(WHEEL, net_by_faces(WHEEL, SIDES))
+((0, 2, 4), (1, 2, 5), (3, 4, 5))
+>>> [net_by_faces(Net(3, ((0, 1), (1, 2))), ()).lines, net_by_faces(Net(1, ((0, 0),)), ((0,),)).lines]
+[((0, 0), (0, 0)), ((0, 1),)]
+>>> ALL = Net(5, tuple([(a, b) for a in range(5) for b in range(a + 1, 5)]))
+>>> faces_or_bar(ALL)[1][0]
+'five'
+"""
+
+SIGNS = """
+>>> [sign_count(ROUNDS), sign_count(FANO), net_signs(WHEEL)]
+[32, 0, ((1, 0, -1, 0, 1, 0), (0, 1, -1, 0, 0, 1), (0, 0, 0, 1, -1, 1))]
+>>> ONES = ((1, 0, 1, 0, 1, 0), (0, 1, 1, 0, 0, 1), (0, 0, 0, 1, 1, 1))
+>>> [are_signs(ROUNDS, ONES), are_right_signs(ROUNDS, ONES), split_of(ROUNDS, ONES, (0, 1, 2)), is_right_or_lot(ROUNDS, ONES, ("lot", (2, 4, 5)))]
+[True, False, None, True]
+>>> [turned_signs(ROUNDS, ONES, (2,)), is_signs_or_bar(FANO, ("seven", (), (0, 1, 2, 3, 4, 5, 6)))]
+[((1, 0, -1, 0, 1, 0), (0, 1, -1, 0, 0, 1), (0, 0, 0, 1, 1, 1)), True]
+"""
+
+
 def names_of(modules):
     """All public names of the modules, and of the errors."""
     found = {}
@@ -167,7 +218,8 @@ def outcome(source, names):
 STAGES = (
     ("base.lots", LOTS), ("table.tables", TABLES), ("table.rings", RINGS), ("table.lesser", LESSER),
     ("table.parts", PARTS), ("net.nets", NETS), ("table.trees", TREES), ("table.bridges", BRIDGES),
-    ("table.sides", SIDES), ("table.stars", STARS), ("main.found", FOUND),
+    ("table.sides", SIDES), ("table.stars", STARS), ("main.found", FOUND), ("main.bars", BARS), ("main.kinds", KINDS),
+    ("main.flat", FLAT), ("sign.signs", SIGNS),
 )
 
 

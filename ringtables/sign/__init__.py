@@ -1,0 +1,1 @@
+"""Signs of tables."""
