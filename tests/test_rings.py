@@ -1,6 +1,8 @@
 """Stage 3: rings, cuts, painting."""
 
 import itertools
+import random
+import time
 from math import comb
 
 from ringtables.errors import InvalidLot, InvalidNumber, InvalidOperation, InvalidTable, TooMany
@@ -119,6 +121,96 @@ class Least(Case):
             for lot in ((0,), (0, 1), (0, 1, 2, 3, 4, 5)):
                 self.check_error(InvalidOperation, {}, function, ROUNDS, lot, *more)
             self.check_wrong(function, (ROUNDS, (0, 1)) + more, wrongs)
+
+
+def masks_by(table):
+    """All sums, one behind the other, as numbers whose bits are the lines."""
+    found = [0]
+    for lot in table.form:
+        mask = sum(1 << line for line in lot)
+        found += [mask ^ other for other in found]
+    return found
+
+
+def plain_rings(table):
+    """The rings by a plain listing of all sums: each one that has no ring of fewer lines within."""
+    least = []
+    for mask in sorted(masks_by(table), key=lambda number: bin(number).count("1"))[1:]:
+        if not any(other & ~mask == 0 for other in least):
+            least.append(mask)
+    return tuple(sorted(tuple(line for line in range(table.many) if mask >> line & 1) for mask in least))
+
+
+class ManySums(Case):
+    """[3.1] for tables with 4,096 sums, the most that are let"""
+
+    def tables(self):
+        chance = random.Random(80)
+        found = [Table(12, SINGLES[:12]), TWELVE, Table(13, tuple((k, 12) for k in range(12))),
+                 Table(24, tuple((k, 12, 23) for k in range(12))),
+                 Table(24, tuple((k, k + 1, k + 12) for k in range(12)))]
+        # Equal lines: lots that have all of some lines or none.
+        found.append(Table(24, tuple((2 * k, 2 * k + 1) for k in range(12))))
+        found.append(Table(24, tuple((k, k + 1) for k in range(6)) + tuple((k, k + 6, k + 12) for k in range(6, 12))))
+        found.append(Table(20, tuple(tuple(sorted((k, 12 + k % 8, 12 + (k + 1) % 8))) for k in range(12))))
+        while len(found) < 14:
+            many = chance.randint(14, 24)
+            lots = tuple(tuple(sorted(chance.sample(range(many), chance.randint(1, 5)))) for _ in range(12))
+            if Table(many, lots).size == 12:
+                found.append(Table(many, lots))
+        return found
+
+    def test_rings_and_cuts(self):
+        several = 0
+        for table in self.tables():
+            self.assertEqual(sum_count(table), 4096)
+            right = plain_rings(table)
+            told = rings(table)
+            self.assertEqual(told, right)
+            self.assertIs(type(told), tuple)
+            self.assertEqual(told, tuple(sorted(told)))
+            for ring in told[:50] + told[-50:]:
+                self.assertIs(type(ring), tuple)
+                self.assertEqual(ring, tuple(sorted(set(ring))))
+                self.assertIs(is_ring(table, ring), True)
+            self.assertEqual(cuts(opposite(table)), right)
+            several += any(len(ring) > 2 for ring in told)
+        self.assertGreater(several, 8)
+
+    def test_twelve_lines(self):
+        table = Table(12, SINGLES[:12])
+        self.assertEqual(rings(table), SINGLES[:12])
+        self.assertEqual(cuts(opposite(table)), SINGLES[:12])
+        self.assertEqual((cuts(table), rings(opposite(table))), ((), ()))
+
+    def test_fewer_sums(self):
+        for table in picked_tables(81, 25, 8, 24):
+            if table.size < 12:
+                self.assertEqual(rings(table), plain_rings(table))
+            if table.many - table.size < 12:
+                self.assertEqual(cuts(table), plain_rings(opposite(table)))
+
+    def test_more_sums(self):
+        for table in (Table(13, SINGLES[:13]), THIRTEEN):
+            self.check_error(TooMany, {"limit": 4096}, rings, table)
+            self.check_error(TooMany, {"limit": 4096}, cuts, opposite(table))
+
+    def test_time(self):
+        # Each sum asked alone takes more than a hundred times as long; ten are asked for.
+        table = Table(12, SINGLES[:12])
+        other = opposite(table)
+        start = time.perf_counter()
+        lots = [tuple(line for line in range(12) if mask >> line & 1) for mask in masks_by(table)]
+        alone = [lot for lot in lots if is_ring(table, lot)]
+        slow = time.perf_counter() - start
+        self.assertEqual(len(alone), 12)
+        for function, told in ((rings, table), (cuts, other)):
+            times = []
+            for _ in range(5):
+                start = time.perf_counter()
+                function(told)
+                times.append(time.perf_counter() - start)
+            self.assertLess(10 * min(times), slow)
 
 
 class RingAndCut(Case):

@@ -2,7 +2,7 @@
 
 from math import comb
 
-from ringtables.base.bits import is_ascending, is_least, is_worded, lot_of, lots_of, mask_of, within
+from ringtables.base.bits import head_of, is_ascending, is_least, is_worded, lot_of, lots_of, mask_of, within
 from ringtables.errors import InvalidLot, InvalidOperation
 from ringtables.table.tables import demand_line, demand_lot, demand_table, is_sum, opposite, opposite_rows, rows_of
 from ringtables.table.tables import sum_masks
@@ -22,8 +22,7 @@ def is_cut(table, value):
 def rings(table):
     """The ascending tuple of all rings."""
     demand_table(table)
-    rows = rows_of(table)
-    return tuple(sorted(lots_of([mask for mask in sum_masks(table) if is_least(rows, mask)])))
+    return tuple(sorted(_least_lots(rows_of(table), sum_masks(table))))
 
 
 def cuts(table):
@@ -99,6 +98,32 @@ def size_counts(table):
         whole = sum([count * _weight(table.many, k, many) for k, count in enumerate(counts)])
         found.append(whole >> (table.many - table.size))
     return tuple(found)
+
+
+def _least_lots(rows, masks):
+    """The lots of the least ones of the masks of all sums of a form."""
+    having = [_having(rows, line) for line in range(max(masks).bit_length())]
+    found = []
+    # A sum within another one has its heads among that one's, so it has the lesser index: the first one left is least.
+    left = (1 << len(masks)) - 2
+    while left:
+        lot = lot_of(masks[head_of(left).bit_length() - 1])
+        found.append(lot)
+        above = left
+        for line in lot:
+            above &= having[line]
+        left ^= above
+    return found
+
+
+def _having(rows, line):
+    """The indices, as the bits of a number, of the sums of a form that have the line."""
+    bits = 0
+    for k, row in enumerate(rows):
+        span = 1 << k
+        more = bits ^ ((1 << span) - 1) if row >> line & 1 else bits
+        bits |= more << span
+    return bits
 
 
 def _least_with(rows, line, others):
