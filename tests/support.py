@@ -365,6 +365,11 @@ class Case(unittest.TestCase):
         told[at] = (InvalidOperation, no_cuts)
         self.check_wrong(function, goods, told)
 
+    def check_judge_wrong(self, judge, goods, right, wrongs):
+        """Like check_wrong, for a judge: whatever the judged value is, a right one or another one."""
+        for value in (None, right, (), 3):
+            self.check_wrong(judge, goods + (value,), wrongs)
+
     def check_never(self, judge, goods, none=False):
         """The judge raises for no value; `none` tells whether None is a right one."""
         for value in STRANGE:

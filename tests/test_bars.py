@@ -30,6 +30,7 @@ EIGHTS = ([widened(SEVEN, lot) for lot in ((), (0,), (0, 1), (0, 1, 3), (0, 1, 2
           + [lengthened(SEVEN, pick) for pick in ((), (0,), (1, 3), (0, 1, 2, 3))]
           + [widened(FOURS, lot) for lot in ((), (2,), (0, 1))] + [lengthened(FOURS, (0, 2)), LONGER])
 TABLES = small_tables(3) + picked_tables(42, 60, 4, 7) + picked_tables(43, 40, 8, 8) + EIGHTS + [SEVEN, FOURS, BOTH]
+NAMES = tuple(range(7))
 NOT_WORDS = ["eight", "", "Seven", "sevens", None, True, False, 0, 7, (), ("seven",), [], ["five"], {}, {"six": 1},
              FANO, WHEEL, 10 ** 59, "x" * 250000, "six\n"]
 NO_STEPS = [None, True, 0, "out", [], {}, ("out", 0), [("out", 0)], (("out", 8),), (("out", True),), (("cut", 0),),
@@ -148,7 +149,7 @@ class Names(Case):
     def test_wrong(self):
         tables = (InvalidTable, NOT_TABLES)
         self.check_wrong(word_of, (FANO,), [tables])
-        for function, more in ((names_for, ()), (name_count, ()), (are_names, (None,))):
+        for function, more in ((names_for, ()), (name_count, ()), (are_names, (None,)), (are_names, (NAMES,))):
             self.check_wrong(function, (FANO, "seven") + more, [tables])
             for word in NOT_WORDS:
                 self.check_error(UnknownName, {"wanted": word}, function, FANO, word, *more)
@@ -300,9 +301,13 @@ class EitherOr(Case):
         self.assertIs(is_net_or_bar(FANO, ("net", ("seven", (), tuple(range(7))))), False)
 
     def test_wrong(self):
-        for function, more in ((net_or_bar, ()), (is_net_or_bar, (None,)), (is_bar, (None,)), (is_least, ()),
-                               (least_steps, ()), (are_least_steps, (None,))):
-            self.check_wrong(function, (FANO,) + more, [(InvalidTable, NOT_TABLES)])
+        tables = (InvalidTable, NOT_TABLES)
+        for function in (net_or_bar, is_least, least_steps):
+            self.check_wrong(function, (FANO,), [tables])
+        bar = ("seven", (), tuple(range(7)))
+        for judge, right in ((is_net_or_bar, ("bar", bar)), (is_net_or_bar, ("net", WHEEL)), (is_bar, bar),
+                             (are_least_steps, (("out", 0),))):
+            self.check_judge_wrong(judge, (FANO,), right, [tables])
 
 
 class Least(Case):

@@ -213,7 +213,7 @@ class Wrong(Case):
         numbers = (InvalidNumber, not_numbers(0, 1))
         for function in (component, segments):
             self.check_cut_wrong(function, (ROUNDS, CROSS, 1), [tables, None, numbers], no_cuts=NO_CUTS)
-        for function, more in ((do_agree, ()), (facing, ()), (is_facing, (None,))):
+        for function, more in ((do_agree, ()), (facing, ()), (is_facing, (None,)), (is_facing, ((CROSS, CROSS),))):
             goods = (ROUNDS, CROSS, 0, 1) + more
             self.check_cut_wrong(function, goods, [tables, None, numbers, numbers], no_cuts=NO_CUTS)
             for k in (0, 1):

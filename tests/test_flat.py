@@ -207,9 +207,12 @@ class EitherOr(Case):
         self.assertEqual([faces_or_bar(net)[0] for net in (EIGHT, whole_net(7))], ["faces", "bar"])
 
     def test_wrong(self):
-        for function, more in ((are_faces, (None,)), (faces_or_bar, ()), (is_faces_or_bar, (None,)), (opposite_net, ()),
-                               (is_opposite, (None,))):
-            self.check_wrong(function, (WHEEL,) + more, [(InvalidNet, NOT_NETS)])
+        nets = (InvalidNet, NOT_NETS)
+        for function in (faces_or_bar, opposite_net):
+            self.check_wrong(function, (WHEEL,), [nets])
+        for judge, right in ((are_faces, SIDES), (is_faces_or_bar, ("faces", SIDES)), (is_opposite, WHEEL),
+                             (is_faces_or_bar, faces_or_bar(SIXES))):
+            self.check_judge_wrong(judge, (WHEEL,), right, [nets])
 
 
 class Short(Case):
@@ -233,6 +236,17 @@ class Short(Case):
                     self.assertIs(is_short_lot(net, faces, value), right)
                 met += 1
         self.assertGreater(met, 4)
+
+    def test_five_and_six_lines(self):
+        for many in (5, 6):
+            around = tuple(tuple(sorted((k, (k + 1) % many))) for k in range(many))
+            net = Net(2 * many, around + tuple((k, k + many) for k in range(many))
+                      + tuple((a + many, b + many) for a, b in around))
+            faces = faces_of(net)
+            lots = faces + (outer(net, faces),)
+            self.assertEqual(sorted(len(lot) for lot in lots), [4] * many + [many] * 2)
+            for k, lot in enumerate(lots):
+                self.assertIs(is_short_lot(net, faces, k), len(lot) < 6)
 
     def test_outer_lot_alone_is_short(self):
         # Faces can be put so that the outer lot is the only short one: sums of many lines.
@@ -270,8 +284,9 @@ class Wrong(Case):
         nets = (InvalidNet, NOT_NETS)
         faces = (InvalidOperation, [None, SIDES[:2], list(SIDES), SIDES + SIDES[:1], (), True, "faces", {}, 3, WHEEL,
                                     (list(SIDES[0]),) + SIDES[1:], ((True, 3),) + SIDES[1:], ((0, 1, 24),) + SIDES[1:]])
-        for function, more in ((outer, ()), (net_by_faces, ()), (short_lot, ()), (is_short_lot, (None,))):
-            self.check_wrong(function, (WHEEL, SIDES) + more, [nets, faces])
+        for function in (outer, net_by_faces, short_lot):
+            self.check_wrong(function, (WHEEL, SIDES), [nets, faces])
+        self.check_judge_wrong(is_short_lot, (WHEEL, SIDES), 1, [nets, faces])
         # Refused is behind all others.
         apart = Net(5, WHEEL.lines)
         for function, more in ((short_lot, ()), (is_short_lot, (None,))):

@@ -152,8 +152,10 @@ class EitherOr(Case):
             self.assertIs(is_net_or_stop(table, value), True)
 
     def test_wrong(self):
-        for function, more in ((net_of, ()), (net_or_stop, ()), (is_net_or_stop, (None,))):
-            self.check_wrong(function, (FANO,) + more, [(InvalidTable, NOT_TABLES)])
+        for function in (net_of, net_or_stop):
+            self.check_wrong(function, (FANO,), [(InvalidTable, NOT_TABLES)])
+        for right in (("net", WHEEL), ("stop", (), ("three", 5, told_cuts(FANO)))):
+            self.check_judge_wrong(is_net_or_stop, (FANO,), right, [(InvalidTable, NOT_TABLES)])
 
 
 class Components(Case):
@@ -349,6 +351,13 @@ class Judged(Case):
         again = self.check_judged(is_net_or_stop, (apart,), values,
                                   lambda value: is_stop_by(apart, value[1], value[2]))
         self.assertEqual(again, taken)
+
+    def test_the_table_behind_hangs_together(self):
+        table = beside(STARS, NONE1)
+        end = ("clash", FOUR, (0, 1, 2))
+        self.assertEqual(sides_or_row(table, FOUR)[0], "row")
+        self.assertIs(is_net_or_stop(table, ("stop", (), end)), False)
+        self.assertIs(is_net_or_stop(table, ("stop", (("part", 0),), end)), True)
 
     def test_steps_that_do_not_fit(self):
         end = ("three", 5, told_cuts(FANO))

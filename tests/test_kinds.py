@@ -234,9 +234,12 @@ class Papers(Case):
         self.assertIs(is_kind_paper(table, value), True)
 
     def test_wrong(self):
-        for function, more in ((kind, ()), (kind_paper, ()), (kinds_of_parts, ()), (is_kind_paper, (None,)),
-                               (flat_or_bar, ()), (is_flat_or_bar, (None,))):
-            self.check_wrong(function, (FANO,) + more, [(InvalidTable, NOT_TABLES)])
+        tables = (InvalidTable, NOT_TABLES)
+        for function in (kind, kind_paper, kinds_of_parts, flat_or_bar):
+            self.check_wrong(function, (FANO,), [tables])
+        for table in TOLD.values():
+            self.check_judge_wrong(is_kind_paper, (FANO,), kind_paper(table), [tables])
+            self.check_judge_wrong(is_flat_or_bar, (FANO,), flat_or_bar(table), [tables])
 
 
 class Flat(Case):

@@ -259,13 +259,14 @@ class Uneven(Case):
 
     def test_wrong(self):
         self.check_wrong(uneven, (FANO,), [(InvalidTable, NOT_TABLES)])
-        self.check_wrong(is_uneven, (FANO, None), [(InvalidTable, NOT_TABLES)])
+        self.check_judge_wrong(is_uneven, (STARS,), (FOUR, (0, 1, 2)), [(InvalidTable, NOT_TABLES)])
 
 
 class Wrong(Case):
     def test_wrong(self):
         tables = (InvalidTable, NOT_TABLES)
-        for function, more in ((sides_or_row, ()), (is_sides_or_row, (None,)), (side_count, ()), (is_even, ())):
+        for function, more in ((sides_or_row, ()), (is_sides_or_row, (None,)), (is_sides_or_row, (("sides", (0, 1)),)),
+                               (is_sides_or_row, (("row", (0, 1, 2)),)), (side_count, ()), (is_even, ())):
             self.check_cut_wrong(function, (ROUNDS, CROSS) + more, [tables, None], no_cuts=NO_CUTS)
         self.check_error(InvalidOperation, {}, sides_or_row, ALL24, (0,))
 

@@ -8,7 +8,7 @@ from ringtables.errors import InvalidLot, InvalidNet, InvalidOperation, InvalidS
 from ringtables.main.bars import told_table
 from ringtables.main.found import net_of
 from ringtables.net.nets import Net, net_beside, table_of
-from ringtables.sign.signs import are_right_signs, are_signs, is_right_or_lot, is_signs_or_bar, is_split
+from ringtables.sign.signs import are_right_signs, are_signs, determinant, is_right_or_lot, is_signs_or_bar, is_split
 from ringtables.sign.signs import is_turns_between, net_signs, opposite_signs, right_or_lot, sign_count, signs_or_bar
 from ringtables.sign.signs import split_of, turned_signs, turns_between
 from ringtables.table.lesser import behind, lengthened, lesser, widened
@@ -143,6 +143,16 @@ class Determinants(Case):
             for lot, number in determinants(table, signs).items():
                 others = tuple(line for line in range(table.many) if line not in lot)
                 self.assertEqual(number % 2 == 1, is_tree(table, others))
+
+    def test_determinant(self):
+        chance = random.Random(50)
+        self.assertEqual([determinant([]), determinant([[3]]), determinant([[0, 1], [1, 0]])], [1, 3, -1])
+        for _ in range(200):
+            many = chance.randint(1, 6)
+            rows = [[chance.choice((-2, -1, 0, 0, 1, 2)) for _ in range(many)] for _ in range(many)]
+            before = repr(rows)
+            self.assertEqual(determinant(rows), determinant_by(rows))
+            self.assertEqual(repr(rows), before)
 
     def test_square(self):
         # [0.19]: the determinant of the rows times themselves, and the number of trees.
@@ -482,18 +492,22 @@ class Wrong(Case):
         no_signs = [None, (), ONES[:2], ONES + ONES[:1], list(ONES), True, "signs", {}, FANO, ONES[::-1], 7]
         no_signs += [(row,) + ONES[1:] for row in rows]
         signs = (InvalidSigns, no_signs)
-        for function, more in ((are_signs, (None,)), (are_right_signs, (None,)), (signs_or_bar, ()), (sign_count, ()),
-                               (is_signs_or_bar, (None,))):
-            self.check_wrong(function, (ROUNDS,) + more, [tables])
+        for function in (signs_or_bar, sign_count):
+            self.check_wrong(function, (ROUNDS,), [tables])
+        bar = ("seven", (), tuple(range(7)))
+        for judge, right in ((are_signs, ONES), (are_right_signs, RIGHT), (is_signs_or_bar, ("signs", RIGHT)),
+                             (is_signs_or_bar, bar)):
+            self.check_judge_wrong(judge, (ROUNDS,), right, [tables])
         picks = (InvalidOperation, not_lots(3) + [(1, 0), (0, 1, 2, 3)])
-        for function, more in ((split_of, ()), (is_split, (None,))):
-            self.check_wrong(function, (ROUNDS, ONES, (0, 1)) + more, [tables, signs, picks])
-        for function, more in ((right_or_lot, ()), (is_right_or_lot, (None,)), (opposite_signs, ())):
-            goods = (ROUNDS, RIGHT) + more
-            self.check_wrong(function, goods, [tables, signs])
+        self.check_wrong(split_of, (ROUNDS, ONES, (0, 1)), [tables, signs, picks])
+        self.check_judge_wrong(is_split, (ROUNDS, ONES, (0, 1)), (1, -1), [tables, signs, picks])
+        for function in (right_or_lot, opposite_signs):
+            self.check_wrong(function, (ROUNDS, RIGHT), [tables, signs])
+        for right in (("right",), ("lot", (2, 4, 5))):
+            self.check_judge_wrong(is_right_or_lot, (ROUNDS, RIGHT), right, [tables, signs])
         self.check_wrong(turned_signs, (ROUNDS, ONES, (0,)), [tables, signs, (InvalidLot, not_lots(6))])
-        for function, more in ((turns_between, ()), (is_turns_between, (None,))):
-            self.check_wrong(function, (ROUNDS, ONES, RIGHT) + more, [tables, signs, signs])
+        self.check_wrong(turns_between, (ROUNDS, ONES, RIGHT), [tables, signs, signs])
+        self.check_judge_wrong(is_turns_between, (ROUNDS, ONES, RIGHT), (0, 2), [tables, signs, signs])
         self.check_wrong(opposite_signs, (ROUNDS, ONES), [tables, signs])
 
 

@@ -10,7 +10,7 @@ from ringtables.table.bridges import bridges
 from ringtables.table.parts import beside, does_hang
 from ringtables.table.stars import is_net_three_or_cut, is_star_cut, net_three_or_cut, star_cuts, star_knots, star_net
 from ringtables.table.stars import told_cuts
-from ringtables.table.tables import Table, is_sum, opposite
+from ringtables.table.tables import Table, is_sum, opposite, relined
 from tests.support import ALL1, ALL24, BOTH, CROSS, EVEN24, FANO, MANY, NONE1, NONE24, NOT_NETS, NOT_TABLES, ONE24
 from tests.support import ROUNDS, SPLIT, SPOKES, STARS, TWOS, WHEEL, Case, add, bridges_by, cuts_by, every_table
 from tests.support import form_by, hanging_net, is_net_by, opposite_of, parts_by, picked_tables, sums_of, table_sums
@@ -130,6 +130,19 @@ class StarNet(Case):
         self.assertGreater(min(nets, others), 15)
         self.assertGreater(threes, 1)
 
+    def test_line_in_four_told_cuts(self):
+        table = Table(13, ((0, 9, 12), (1, 10, 11), (2, 9, 10), (3, 9, 11, 12), (4, 9, 10, 11, 12), (5, 9), (6, 9, 11),
+                           (7, 10, 11, 12), (8, 10, 11)))
+        told = told_cuts(table)
+        self.assertTrue(all(is_star_cut(table, cut) for cut in told))
+        # A line ahead is in three of them, some line is in four: three are told.
+        self.assertEqual(max(sum(line in cut for cut in told) for line in range(13)), 4)
+        order = (9,) + tuple(line for line in range(13) if line != 9)
+        for again in (table, relined(table, order)):
+            word, line, cuts = net_three_or_cut(again)
+            self.assertEqual((word, len(cuts)), ("three", 3))
+            self.assertIs(is_net_three_or_cut(again, (word, line, cuts)), True)
+
     def test_great(self):
         self.assertEqual(star_net(EVEN24), Net(2, ((0, 1),) * 24))
         spokes = table_of(SPOKES)
@@ -168,6 +181,9 @@ class Judged(Case):
     def test_judge_takes_nothing_else(self):
         cuts = told_cuts(FANO)
         self.check_takes(is_net_three_or_cut, (FANO,), ("three", 5, cuts))
+        for line in (0, 1):
+            with_line = tuple(cut for cut in cuts_by(FANO) if line in cut)
+            self.check_takes(is_net_three_or_cut, (FANO,), ("three", line, with_line[1:]))
         self.check_takes(is_net_three_or_cut, (ROUNDS,), ("cut", CROSS))
         self.check_takes(is_net_three_or_cut, (ROUNDS,), ("net", WHEEL))
         for table in (FANO, ROUNDS, EVEN24, STARS):
@@ -212,8 +228,10 @@ def parts_left(table, lot):
 class Wrong(Case):
     def test_wrong(self):
         tables = (InvalidTable, NOT_TABLES)
+        three = ("three", 5, told_cuts(FANO))
         for function, more in ((told_cuts, ()), (star_net, ()), (net_three_or_cut, ()), (star_cuts, ()),
-                               (is_net_three_or_cut, (None,))):
+                               (is_net_three_or_cut, (None,)), (is_net_three_or_cut, (three,)),
+                               (is_net_three_or_cut, (("net", WHEEL),)), (is_net_three_or_cut, (("cut", CROSS),))):
             self.check_wrong(function, (FANO,) + more, [tables])
             for table in APART:
                 self.check_error(Refused, PARTS, function, table, *more)

@@ -25,7 +25,8 @@ _CHANGED = {"out": "join", "join": "out", "seven": "fours", "fours": "seven"}
 
 def told_table(word):
     """The told table."""
-    _demand_word(word)
+    if word not in WORDS:
+        raise UnknownName(word)
     many, lots = _TOLD[word]
     return made(many, masks_of(lots))
 
@@ -42,7 +43,6 @@ def word_of(table):
 def names_for(table, word):
     """Names that lead the told table to the table, None if there are none."""
     demand_table(table)
-    _demand_word(word)
     found = _namings(table, word, 1)
     return found[0] if found else None
 
@@ -61,7 +61,6 @@ def are_names(table, word, value):
 def name_count(table, word):
     """How many names lead the told table to the table."""
     demand_table(table)
-    _demand_word(word)
     return len(_namings(table, word, _MOST_NAMES))
 
 
@@ -198,8 +197,3 @@ def _image(images, column):
         if column >> k & 1:
             whole ^= image
     return whole
-
-
-def _demand_word(word):
-    if word not in WORDS:
-        raise UnknownName(word)

@@ -14,7 +14,6 @@ KINDS = ("flat", "net", "opposite", "signed", "bare")
 
 def kind(table):
     """The kind of the table."""
-    demand_table(table)
     net = net_of(table)
     other = net_of(opposite(table))
     if net is not None:
@@ -26,7 +25,6 @@ def kind(table):
 
 def kind_paper(table):
     """A paper that shows the kind of the table, and begins with its word."""
-    demand_table(table)
     one = net_or_bar(table)
     other = net_or_bar(opposite(table))
     if one[0] == "net":
@@ -70,7 +68,6 @@ def kind_by(words):
 
 def flat_or_bar(table):
     """Nets of the table and its opposite, or a bar of one of both."""
-    demand_table(table)
     one = net_or_bar(table)
     if one[0] == "bar":
         return ("table", one[1])

@@ -196,8 +196,9 @@ def _packed(row):
 
 def _is_level(total, ones):
     """Tell whether all numbers packed in the total are -1, 0 or 1; `ones` packs as many ones."""
+    # With one added to each number these must be 0, 1 or 2; a total below 0 has bits beyond all of them.
     whole = total + ones
-    return whole >= 0 and not whole & ~(3 * ones) and not whole & whole >> 1 & ones
+    return not whole & ~(3 * ones) and not whole & whole >> 1 & ones
 
 
 def _is_unimodular(block):
