@@ -189,6 +189,46 @@ SIGNS = """
 [((1, 0, -1, 0, 1, 0), (0, 1, -1, 0, 0, 1), (0, 0, 0, 1, 1, 1)), True]
 """
 
+COUNTS = """
+>>> RIGHT = net_signs(WHEEL)
+>>> [tree_count(ROUNDS), trees_with(ROUNDS), tree_count(FANO), net_tree_count(WHEEL)]
+[16, (8, 8, 8, 8, 8, 8), 28, 16]
+>>> [square(ROUNDS, RIGHT), square_count(ROUNDS, RIGHT), square_count(ROUNDS, ONES), lot_determinant(ROUNDS, ONES, (2, 4, 5))]
+[((3, 1, -1), (1, 3, 1), (-1, 1, 3)), 16, 20, -2]
+>>> [net_or_uneven(ROUNDS)[0], is_net_or_uneven(ROUNDS, ("net", WHEEL)), tree_count(Table(3, ()))]
+['net', True, 1]
+>>> net_or_uneven(FANO)
+raises Refused(('signs',))
+"""
+
+CURRENTS = """
+>>> THREE, ROUND = Table(3, ((0, 1, 2),)), ((1, 1, -1),)
+>>> [is_flow(THREE, ROUND, (2, 2, -2)), is_tension(THREE, ROUND, (1, 2, 3)), bottom(THREE, ROUND, (1, 2, 3))]
+[True, True, 6]
+>>> [currents(THREE, ROUND, (1, 1, 1), (1, 0, 0)), share(THREE, ROUND, (1, 1, 1), 0), is_flow_or_cut(THREE, ROUND, (1, 1, 0), ("cut", (0, 1, 1)))]
+[(3, (1, 1, -1), (2, -1, 1)), (2, 3), True]
+"""
+
+LISTS = """
+>>> BRIDGE, TWO = ((0, 1), (0, 2, 4), (1, 2, 3), (3, 4)), ((0, 1), (0, 2), (1, 2))
+>>> [cuts_of(BRIDGE), odd_or_pair(BRIDGE), lot_or_cut(BRIDGE, (0, 3, 4)), conducting(BRIDGE)]
+[((0, 2, 4), (0, 3), (1, 2, 3), (1, 4)), ('odd',), ('lot', (3, 4)), 16]
+>>> [is_odd_or_pair(TWO, ("even", (0, 1), (0, 1))), cuts_of(TWO) == TWO, list_of_table(table_of_list(BRIDGE), 5) == BRIDGE]
+[True, True, True]
+>>> is_list(((0, 1), (0, 1, 2)))
+False
+"""
+
+POLES = """
+>>> DELTA = Net(4, ((0, 2), (1, 2), (2, 3), (0, 3), (1, 3)))
+>>> [ways(DELTA) == BRIDGE, rims(DELTA) == cuts_of(BRIDGE), way_or_shore(DELTA, (0, 2, 3)), net_or_paper(BRIDGE)[0]]
+[True, True, ('shore', (0, 2, 3)), 'net']
+>>> [is_net_or_paper(BRIDGE, ("net", DELTA)), net_or_paper(TWO)[0], is_way(DELTA, (1, 2, 3)), ways(Net(3, ((0, 2),)))]
+[True, 'even', True, ()]
+>>> wishes_of(Net(3, ((0, 1), (0, 2))))
+raises Refused(('line', 1))
+"""
+
 
 def names_of(modules):
     """All public names of the modules, and of the errors."""
@@ -219,7 +259,8 @@ STAGES = (
     ("base.lots", LOTS), ("table.tables", TABLES), ("table.rings", RINGS), ("table.lesser", LESSER),
     ("table.parts", PARTS), ("net.nets", NETS), ("table.trees", TREES), ("table.bridges", BRIDGES),
     ("table.sides", SIDES), ("table.stars", STARS), ("main.found", FOUND), ("main.bars", BARS), ("main.kinds", KINDS),
-    ("main.flat", FLAT), ("sign.signs", SIGNS),
+    ("main.flat", FLAT), ("sign.signs", SIGNS), ("sign.counts", COUNTS), ("sign.currents", CURRENTS),
+    ("wish.lists", LISTS), ("wish.poles", POLES),
 )
 
 

@@ -11,7 +11,7 @@ BUILTINS = set("""len range enumerate zip min max sum abs sorted reversed int st
     isinstance ord repr any all divmod pow Exception ValueError TypeError KeyError IndexError LookupError
     ZeroDivisionError ArithmeticError OverflowError RuntimeError NotImplementedError""".split())
 METHODS = set("""append clear copy count endswith extend find get index insert items join keys pop remove replace reverse
-    setdefault split splitlines startswith strip update values bit_length""".split())
+    setdefault split splitlines startswith strip update values bit_length isascii isprintable""".split())
 LIBRARY = {"math": {"gcd", "lcm", "isqrt", "comb", "perm", "factorial"},
            "itertools": {"product", "combinations", "permutations"}}
 DUNDERS = {"__init__", "__eq__", "__str__", "__repr__", "__len__"}

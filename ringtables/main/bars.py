@@ -1,12 +1,12 @@
 """Bars: ways down to one of the four told tables, which no net has."""
 
-from ringtables.base.bits import is_tuple_of, is_whole, is_worded, lot_of, mask_of, masks_of, reduced, within
+from ringtables.base.bits import is_tuple_of, is_worded, lot_of, mask_of, masks_of, reduced, within
 from ringtables.errors import InvalidOperation, Refused, UnknownName
 from ringtables.main.found import behind_steps, ends_or_stop, net_of, net_or_stop
 from ringtables.net.nets import is_net_of
 from ringtables.table.bridges import bridges_of
 from ringtables.table.lesser import behind, followed, lesser_by, steps_for
-from ringtables.table.tables import demand_table, every_line, made, opposite_rows, rows_of
+from ringtables.table.tables import demand_table, every_line, is_order, made, opposite_rows, rows_of
 
 WORDS = ("five", "fours", "seven", "six")
 
@@ -51,9 +51,7 @@ def are_names(table, word, value):
     """Tell whether the value is such names."""
     demand_table(table)
     told = told_table(word)
-    if told.many != table.many or not is_tuple_of(value, table.many) or not all([is_whole(line) for line in value]):
-        return False
-    if sorted(value) != list(range(table.many)):
+    if told.many != table.many or not is_order(table.many, value):
         return False
     return reduced([mask_of([value[line] for line in lot]) for lot in told.form]) == rows_of(table)
 

@@ -116,16 +116,16 @@ def net_join(net, line):
         return Net(net.knots, _others(net, line))
     names = [knot if knot < high else knot - 1 for knot in range(net.knots)]
     names[high] = low
-    return Net(net.knots - 1, _renamed(_others(net, line), names))
+    return Net(net.knots - 1, renamed(_others(net, line), names))
 
 
 def net_beside(one, other):
     """The net of both, knots and lines of the second one counted on."""
     demand_net(one)
     demand_net(other)
-    _demand_room(one.knots + other.knots, len(one.lines) + len(other.lines))
+    demand_room(one.knots + other.knots, len(one.lines) + len(other.lines))
     names = [one.knots + knot for knot in range(other.knots)]
-    return Net(one.knots + other.knots, one.lines + _renamed(other.lines, names))
+    return Net(one.knots + other.knots, one.lines + renamed(other.lines, names))
 
 
 def net_tied(one, line, other, further, side):
@@ -143,12 +143,12 @@ def net_tied(one, line, other, further, side):
     more = _others(other, further)
     if not lines and not more:
         raise Refused(("nothing",))
-    _demand_room(one.knots + other.knots - 2, len(lines) + len(more))
+    demand_room(one.knots + other.knots - 2, len(lines) + len(more))
     names = {ends[0]: one.lines[line][side], ends[1]: one.lines[line][1 - side]}
     for knot in range(other.knots):
         if knot not in names:
             names[knot] = one.knots + len(names) - 2
-    return Net(one.knots + other.knots - 2, lines + _renamed(more, names))
+    return Net(one.knots + other.knots - 2, lines + renamed(more, names))
 
 
 def one_piece(net):
@@ -161,7 +161,30 @@ def one_piece(net):
     for knot in range(net.knots):
         if knot not in names:
             names[knot] = len(names) - glued + 1
-    return Net(net.knots - glued + 1, _renamed(net.lines, names))
+    return Net(net.knots - glued + 1, renamed(net.lines, names))
+
+
+def way_ends(net, lot):
+    """The ascending pair of the knots at the ends of a way with just these lines; None if they are no way."""
+    places = [knot for line in lot for knot in net.lines[line]]
+    ends = [knot for knot in sorted(set(places)) if places.count(knot) == 1]
+    if len(ends) != 2:
+        return None
+    knot = ends[0]
+    left = list(lot)
+    while knot != ends[1]:
+        near = [line for line in left if knot in net.lines[line]]
+        # With one line only to go on by, no knot is met twice.
+        if len(near) != 1:
+            return None
+        left.remove(near[0])
+        knot = _further_end(net.lines[near[0]], knot)
+    return None if left else tuple(ends)
+
+
+def renamed(lines, names):
+    """The lines between the knots' new names, the lesser one ahead."""
+    return tuple([tuple(sorted([names[low], names[high]])) for low, high in lines])
 
 
 def demand_net(net):
@@ -174,6 +197,14 @@ def demand_net_line(net, line):
     """Raise InvalidNumber unless this is a line of the net."""
     if not is_between(line, 0, len(net.lines) - 1):
         raise InvalidNumber(line)
+
+
+def demand_room(knots, lines):
+    """Raise TooMany if a net has no room for so many lines, or so many knots."""
+    if lines > MOST_LINES:
+        raise TooMany(MOST_LINES)
+    if knots > MOST_KNOTS:
+        raise TooMany(MOST_KNOTS)
 
 
 def _are_lines(knots, lines):
@@ -224,21 +255,9 @@ def _others(net, line):
     return net.lines[:line] + net.lines[line + 1:]
 
 
-def _renamed(lines, names):
-    """The lines between the knots' new names, the lesser one ahead."""
-    return tuple([tuple(sorted([names[low], names[high]])) for low, high in lines])
-
-
 def _refuse_only_line(net):
     if len(net.lines) == 1:
         raise Refused(("nothing",))
-
-
-def _demand_room(knots, lines):
-    if lines > MOST_LINES:
-        raise TooMany(MOST_LINES)
-    if knots > MOST_KNOTS:
-        raise TooMany(MOST_KNOTS)
 
 
 def _demand_lot(net, lot):

@@ -16,8 +16,8 @@ _FIELD = 6
 def are_signs(table, value):
     """Tell whether the value are signs for the table, right or not."""
     demand_table(table)
-    _demand_few_lines(table)
-    return _are_signs(table, value)
+    demand_few_lines(table)
+    return are_formed(table, value)
 
 
 def are_right_signs(table, value):
@@ -44,8 +44,8 @@ def is_split(table, signs, pick, value):
 
 def right_or_lot(table, signs):
     """("right",), or a lot of size-many lines with another determinant than -1, 0, 1."""
-    _demand_signs(table, signs)
-    _demand_few_lines(table)
+    demand_signs(table, signs)
+    demand_few_lines(table)
     if _are_right(table, signs):
         return ("right",)
     rows = list(range(table.size))
@@ -63,8 +63,8 @@ def right_or_lot(table, signs):
 
 def is_right_or_lot(table, signs, value):
     """Tell whether the value is ("right",) for right signs, or such a lot with its word."""
-    _demand_signs(table, signs)
-    _demand_few_lines(table)
+    demand_signs(table, signs)
+    demand_few_lines(table)
     if is_worded(value, "right", 1):
         return _are_right(table, signs)
     if not is_worded(value, "lot") or not is_ascending(value[1], table.many) or len(value[1]) != table.size:
@@ -81,7 +81,7 @@ def signs_or_bar(table):
 def is_signs_or_bar(table, value):
     """Tell whether the value is such signs, or such a bar."""
     demand_table(table)
-    _demand_few_lines(table)
+    demand_few_lines(table)
     if is_worded(value, "signs"):
         return are_right_signs(table, value[1])
     return is_bar(table, value) and value[0] in ("seven", "fours")
@@ -89,17 +89,17 @@ def is_signs_or_bar(table, value):
 
 def turned_signs(table, signs, lot):
     """The signs with the lines of the lot turned."""
-    _demand_signs(table, signs)
+    demand_signs(table, signs)
     demand_lot(table, lot)
-    _demand_few_lines(table)
+    demand_few_lines(table)
     return _turned(table, signs, lot)
 
 
 def turns_between(table, signs, others):
     """A lot of lines that, turned, leads the one signs to the others; None if there is none."""
-    _demand_signs(table, signs)
-    _demand_signs(table, others)
-    _demand_few_lines(table)
+    demand_signs(table, signs)
+    demand_signs(table, others)
+    demand_few_lines(table)
     return _turns(table, signs, others)
 
 
@@ -113,10 +113,8 @@ def is_turns_between(table, signs, others, value):
 
 def opposite_signs(table, signs):
     """The signs of the opposite whose rows have the product 0 with those of these right ones."""
-    _demand_signs(table, signs)
-    _demand_few_lines(table)
-    if not _are_right(table, signs):
-        raise InvalidOperation("right signs are asked for")
+    demand_signs(table, signs)
+    demand_right(table, signs)
     heads = [lot[0] for lot in table.form]
     left = []
     for column in _columns(table):
@@ -140,7 +138,7 @@ def sign_count(table):
 def right_signs(table):
     """Right signs for the table, None if there are none."""
     demand_table(table)
-    _demand_few_lines(table)
+    demand_few_lines(table)
     signs = _numbers(rows_of(table), table.many)
     return tuple([tuple(row) for row in signs]) if _are_right(table, signs) else None
 
@@ -162,7 +160,28 @@ def determinant(rows):
     return sign * before
 
 
-def _are_signs(table, value):
+def demand_few_lines(table):
+    """Raise TooMany if the table has more than 16 lines."""
+    if table.many > MOST_SIGNED:
+        raise TooMany(MOST_SIGNED)
+
+
+def demand_signs(table, signs):
+    """Raise InvalidTable unless this is a table, InvalidSigns unless these are signs for it, right or not."""
+    demand_table(table)
+    if not are_formed(table, signs):
+        raise InvalidSigns("signs for the table are asked for")
+
+
+def demand_right(table, signs):
+    """Raise TooMany if the table of the signs has more than 16 lines, InvalidOperation unless they are right."""
+    demand_few_lines(table)
+    if not _are_right(table, signs):
+        raise InvalidOperation("right signs are asked for")
+
+
+def are_formed(table, value):
+    """Tell whether the value are signs for the table, of any number of lines, right or not."""
     if not is_tuple_of(value, table.size):
         return False
     return all([_is_signed(table.many, lot, row) for lot, row in zip(table.form, value)])
@@ -354,19 +373,8 @@ def _walked_signs(net, lot):
     return tuple(row)
 
 
-def _demand_few_lines(table):
-    if table.many > MOST_SIGNED:
-        raise TooMany(MOST_SIGNED)
-
-
-def _demand_signs(table, signs):
-    demand_table(table)
-    if not _are_signs(table, signs):
-        raise InvalidSigns("signs for the table are asked for")
-
-
 def _demand_pick(table, signs, pick):
-    _demand_signs(table, signs)
+    demand_signs(table, signs)
     if not is_ascending(pick, table.size):
         raise InvalidOperation("an ascending tuple of indices of rows is asked for")
-    _demand_few_lines(table)
+    demand_few_lines(table)

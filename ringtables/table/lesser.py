@@ -9,7 +9,7 @@ from ringtables.table.tables import demand_lot, demand_table, made, opposite_row
 def lesser(table, step):
     """The table behind a step."""
     demand_table(table)
-    if not _is_step(table.many, step):
+    if not is_step(table.many, step):
         raise InvalidOperation("a step of the table is asked for")
     _refuse_nothing(table, 1)
     word, line = step
@@ -130,6 +130,11 @@ def steps_to(table, other):
     return tuple([step for step in steps if lesser(table, step) == other])
 
 
+def is_step(many, value):
+    """Tell whether the value is a step of a table with so many lines, be it one that leaves none."""
+    return (is_worded(value, "out") or is_worded(value, "join")) and is_between(value[1], 0, many - 1)
+
+
 def followed(table, steps):
     """The lines left out, joined, and staying behind the steps; None unless these are steps."""
     if not isinstance(steps, tuple):
@@ -137,7 +142,7 @@ def followed(table, steps):
     found = {"out": [], "join": []}
     stay = list(range(table.many))
     for step in steps:
-        if len(stay) == 1 or not _is_step(len(stay), step):
+        if len(stay) == 1 or not is_step(len(stay), step):
             return None
         word, number = step
         found[word].append(stay.pop(number))
@@ -152,10 +157,6 @@ def _lesser_by(table, outs, joins):
 
 def _are_tidy(table, outs, joins):
     return not within(rows_of(table), mask_of(joins)) and not within(opposite_rows(table), mask_of(outs))
-
-
-def _is_step(many, value):
-    return (is_worded(value, "out") or is_worded(value, "join")) and is_between(value[1], 0, many - 1)
 
 
 def _demand_steps(table, steps):

@@ -1,7 +1,7 @@
 """Tables of lots, their sums and opposites."""
 
-from ringtables.base.bits import cleared, head_of, is_ascending, is_between, is_whole, kernel, lot_of, lots_of, mask_of
-from ringtables.base.bits import masks_of, parity, reduced, renumbered, shared
+from ringtables.base.bits import cleared, head_of, is_ascending, is_between, is_tuple_of, is_whole, kernel, lot_of
+from ringtables.base.bits import lots_of, mask_of, masks_of, parity, reduced, renumbered, shared
 from ringtables.base.lots import MOST_LINES
 from ringtables.errors import InvalidLot, InvalidNumber, InvalidOperation, InvalidTable, TooMany
 
@@ -144,6 +144,14 @@ def tested(table, lot):
     return None
 
 
+def is_order(many, value):
+    """Tell whether the value is a tuple that has each of so many lines once."""
+    # Sorting compares items, so what is no integer is refused before.
+    if not is_tuple_of(value, many) or not all([is_whole(line) for line in value]):
+        return False
+    return sorted(value) == list(range(many))
+
+
 def rows_of(table):
     """The masks of the lots of the form."""
     return masks_of(table.form)
@@ -200,11 +208,8 @@ def _demand_alike(one, other):
 
 
 def _demand_order(table, order):
-    # Sorting compares items, so what is no integer is refused before.
-    if not isinstance(order, tuple) or not all([is_whole(line) for line in order]):
-        raise InvalidOperation("an order is a tuple of lines")
-    if sorted(order) != list(range(table.many)):
-        raise InvalidOperation("an order has each line once")
+    if not is_order(table.many, order):
+        raise InvalidOperation("an order is a tuple that has each line once")
 
 
 def _are_lots_of(many, lots):

@@ -1,0 +1,1 @@
+"""Lists of wishes, and nets that do them."""
