@@ -229,6 +229,56 @@ POLES = """
 raises Refused(('line', 1))
 """
 
+JOINS = """
+>>> [list_and(((0,), (1,)), ((0,),)), list_or(((0, 1),), ((0,),)), list_put(BRIDGE, 0, ((0,), (1,)))[:2]]
+[((0, 2), (1, 2)), ((0, 1), (2,)), ((0, 1, 2), (0, 4))]
+>>> [list_of_recipe((0, 1, "and", 2, "or")), recipe_or_pair(TWO)[0], is_recipe_or_pair(BRIDGE, ("pair", (0, 2, 4), (0, 2, 4)))]
+[((0, 1), (2,)), 'pair', True]
+>>> net_and(Net(2, ((0, 1),)), Net(2, ((0, 1), (0, 1)))) == Net(3, ((0, 2), (1, 2), (1, 2)))
+True
+"""
+
+WAYS = """
+>>> [is_way_in(WHEEL, (0, 4)), ends_of(WHEEL, (0, 1)), ends_of(WHEEL, (0, 5)), ends_of(WHEEL, (0, 1, 2))]
+[True, (1, 2), None, None]
+>>> [way_or_paper(ROUNDS, (0, 1))[0], way_or_paper(ROUNDS, (0, 5))[0], way_or_paper(ROUNDS, (0, 1, 3)), closed(ROUNDS, ((0, 1),)).lots[-1]]
+['way', 'bar', ('ring', (0, 1, 3)), (0, 1, 6)]
+>>> LOOSE = Table(4, ())
+>>> [ways_or_paper(LOOSE, ((0, 1, 2), (0, 1, 3)))[0], ways_or_paper(LOOSE, ((0, 1, 2), (0, 1, 3), (0, 2, 3)))[1][0], star_or_clash(ROUNDS, (0, 1, 2))[0]]
+['ways', 'fours', 'star']
+"""
+
+TEXTS = r"""
+>>> [table_text(BOTH), net_text(Net(2, ((0, 1), (1, 1)))), steps_text(BOTH, (("out", 4), ("join", 0)))]
+['lines 5\nlot 0 1\nlot 2 3\nlot 0 2 4\n', 'knots 2\nline 0 1\nline 1 1\n', 'out 4\njoin 0\n']
+>>> [read_signs(Table(2, ((0, 1),)), "row 1 -1\n"), list_text(((0, 1), (2,)))]
+[((1, -1),), 'wish 0 1\nwish 2\n']
+>>> read_table("lines 2\nlot 0 2\n")
+raises ParseError(1)
+>>> read_steps(BOTH, "out 4\njoin 4\n")
+raises ParseError(1)
+"""
+
+DEEDS = """
+>>> BENCH = Bench(FANO)
+>>> for deed in (("out", 6), ("lines", (0, 1, 3, 2, 4, 5))): BENCH.do(deed)
+>>> [str(BENCH), BENCH.kind(), kind_above("net", "opposite"), led_net(WHEEL, ("join", 0)).lines]
+['bench of 6 lines, size 3, 2 deeds', 'flat', 'signed', ((0, 1), (0, 2), (0, 1), (0, 2), (1, 2))]
+>>> BENCH.do(("out", 6))
+raises InvalidOperation
+"""
+
+CLAIMS = """
+>>> [OPPOSITES["bent"], opposite_claim(("some", (("net", FANO), ("cut", ROUNDS, 0, (1,))))) == ("each", (("stopped", FANO), ("ring", ROUNDS, 0, (1,))))]
+['flat', True]
+>>> [does_take(("net", ROUNDS), WHEEL), does_take(("odd", STARS, (0, 2, 4, 7)), (0, 1, 2)), does_take(("undone", TWO), ("even", (0, 1), (0, 1)))]
+[True, True, True]
+>>> [settled(("free", FANO))[0][0], settled(("sum", ROUNDS, (0, 1, 3)))[1], settled(("cut", ROUNDS, 0, (1, 3)))[1]]
+['barred', (0, 1, 2), (0, 1, 3)]
+>>> [led_paper(("free", ROUNDS), WHEEL, "signed") == net_signs(WHEEL), is_claim(("even", ROUNDS, (0, 1)))]
+[True, False]
+"""
+
 
 def names_of(modules):
     """All public names of the modules, and of the errors."""
@@ -260,7 +310,8 @@ STAGES = (
     ("table.parts", PARTS), ("net.nets", NETS), ("table.trees", TREES), ("table.bridges", BRIDGES),
     ("table.sides", SIDES), ("table.stars", STARS), ("main.found", FOUND), ("main.bars", BARS), ("main.kinds", KINDS),
     ("main.flat", FLAT), ("sign.signs", SIGNS), ("sign.counts", COUNTS), ("sign.currents", CURRENTS),
-    ("wish.lists", LISTS), ("wish.poles", POLES),
+    ("wish.lists", LISTS), ("wish.poles", POLES), ("wish.joins", JOINS), ("more.ways", WAYS), ("text.texts", TEXTS),
+    ("bench.bench", DEEDS), ("judge.claims", CLAIMS),
 )
 
 

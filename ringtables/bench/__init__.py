@@ -1,0 +1,1 @@
+"""A bench that keeps a table."""

@@ -1,0 +1,1 @@
+"""Claims, and one judge of their papers."""

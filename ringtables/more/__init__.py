@@ -1,0 +1,1 @@
+"""What more a table lets."""

@@ -1,0 +1,1 @@
+"""Texts of tables, nets, steps, bars, signs and lists."""
