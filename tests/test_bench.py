@@ -206,7 +206,8 @@ class Refusals(Case):
         small = Bench(NONE1)
         for _ in range(200):
             small.do(("opposite",))
-        self.check_refused(Refused, {"reason": ("nothing",)}, small, ("out", 0))
+        for word in ("out", "join"):
+            self.check_refused(Refused, {"reason": ("nothing",)}, small, (word, 0))
         self.check_refused(TooMany, {"limit": 200}, small, ("sum", ()))
         self.check_error(NothingToUndo, {"done": 200}, small.again)
         for _ in range(200):

@@ -13,7 +13,7 @@ from ringtables.table.parts import beside, does_hang
 from ringtables.table.rings import cuts, rings
 from ringtables.table.tables import Table, opposite
 from ringtables.wish.lists import conducting, cuts_of, is_cut_of, is_list, is_lot_or_cut, is_odd_or_pair, list_of_table
-from ringtables.wish.lists import lot_or_cut, odd_or_pair, table_of_list
+from ringtables.wish.lists import least_meeting, lot_or_cut, odd_or_pair, table_of_list
 from tests.support import ALL1, BOTH, FANO, NONE1, NONE24, NOT_TABLES, ROUNDS, SPLIT, STRANGE, WHEEL, Case, add, cuts_by
 from tests.support import hanging_net, not_numbers, picked_tables, rings_of, small_tables, subsets, sums_of, table_sums
 from tests.support import twists
@@ -175,6 +175,14 @@ class Cuts(Case):
                 for word in ("lot", "cut"):
                     right = word == "lot" and repr(value) == "(0, 1)" and len(shut) > 2
                     self.assertIs(is_lot_or_cut(BRIDGE, shut, (word, value)), right)
+
+    def test_most_cuts(self):
+        # A list of 100 wishes at most does not have 924 cuts: all lots of six contacts are met by all of seven alone.
+        masks = [sum(1 << k for k in lot) for lot in itertools.combinations(range(12), 7)]
+        before = time.perf_counter()
+        self.assertEqual(least_meeting(12, masks), tuple(itertools.combinations(range(12), 6)))
+        self.assertLess(time.perf_counter() - before, 2)
+        self.assertEqual([least_meeting(1, []), least_meeting(12, [])], [((),), ((),)])
 
     def test_great(self):
         self.assertEqual(cuts_of(ALL12), EACH12)

@@ -210,8 +210,9 @@ class Lists(Case):
         # No net of twelve lines has more than 81 ways, as far as a search went: a lesser bound shows the error.
         with mock.patch.object(module, "MOST_WISHES", 80):
             self.check_error(TooMany, {"limit": 80}, wishes_of, TRIPLES)
-            self.check_error(Refused, {"reason": ("line", 12 - 1)}, wishes_of,
-                             Net(5, TRIPLES.lines[:-1] + ((2, 2),)))
+            self.check_error(Refused, {"reason": ("line", 11)}, wishes_of, Net(5, TRIPLES.lines[:-1] + ((2, 2),)))
+        with mock.patch.object(module, "MOST_WISHES", 81):
+            self.assertEqual(len(wishes_of(TRIPLES)), 81)
 
 
 def wishes_are(net):
@@ -296,8 +297,11 @@ class ExactlyIf(Case):
             for value in STRANGE:
                 for word in ("net", "barred"):
                     self.assertIs(is_net_or_paper(wishes, (word, value)), False)
-        for net in (Net(1, ((0, 0),) * 5), Net(4, DELTA.lines + ((0, 1),)), Net(4, DELTA.lines[:-1])):
+        for net in (Net(1, ((0, 0),) * 5), Net(4, DELTA.lines + ((0, 1),)), Net(4, DELTA.lines[:-1]), Net(2, ((0, 1),) * 13),
+                    Net(4, DELTA.lines + ((2, 2),)), Net(1, ((0, 0),) * 24)):
             self.assertIs(is_net_or_paper(BRIDGE, ("net", net)), False)
+        for value in (("odd",), ("net",), ("odd", DELTA), ("even", (0, 1), (0, 3)), ("stop", (), ()), ("bar", (), ())):
+            self.assertIs(is_net_or_paper(BRIDGE, value), False)
 
 
 class CutsToo(Case):

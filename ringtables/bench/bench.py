@@ -89,7 +89,7 @@ def is_led_net(net, deed, value):
 def kind_above(one, other):
     """The lowest kind that is, or is above, each of two kinds."""
     for word in (one, other):
-        if not isinstance(word, str) or word not in KINDS:
+        if word not in KINDS:
             raise UnknownName(word)
     # Parts of two kinds make up a table of just this one.
     return kind_by((one, other))

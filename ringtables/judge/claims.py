@@ -82,7 +82,7 @@ def led_paper(claim, value, word):
     _demand_claim(claim)
     if not does_take(claim, value):
         raise InvalidOperation("a paper of the claim is asked for")
-    if not isinstance(word, str) or (claim[0], word) not in _LED:
+    if (claim[0], word) not in _LED:
         raise UnknownName(word)
     if word == "signed" and claim[1].many > MOST_SIGNED:
         raise TooMany(MOST_SIGNED)

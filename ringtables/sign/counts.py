@@ -6,7 +6,7 @@ from ringtables.main.found import net_of
 from ringtables.net.nets import is_net_of, one_piece, star
 from ringtables.sign.signs import demand_few_lines, demand_signs, determinant, right_signs
 from ringtables.table.sides import is_cut_with_row, uneven
-from ringtables.table.tables import demand_lot, demand_table, every_line, opposite_rows, rows_of
+from ringtables.table.tables import demand_lot, demand_table, every_line, rows_of
 
 
 def tree_count(table):
@@ -78,15 +78,10 @@ def _trees(table):
     """The masks of all trees."""
     demand_table(table)
     demand_few_lines(table)
-    # Trees are the bases of the columns of the opposite's form, and what is beyond those of the table's form.
-    if 2 * table.size > table.many:
-        return _bases(_columns(opposite_rows(table), table.many), 0, table.many - table.size)
-    return [every_line(table) ^ basis for basis in _bases(_columns(rows_of(table), table.many), 0, table.size)]
-
-
-def _columns(rows, many):
-    """For each line the rows in which it is, as the bits of a number."""
-    return [sum([1 << k for k, row in enumerate(rows) if row >> line & 1]) for line in range(many)]
+    rows = rows_of(table)
+    columns = [sum([1 << k for k, row in enumerate(rows) if row >> line & 1]) for line in range(table.many)]
+    # A tree is what is beyond as many columns as there are rows, no sum of which is 0.
+    return [every_line(table) ^ basis for basis in _bases(columns, 0, table.size)]
 
 
 def _bases(columns, line, due):

@@ -153,9 +153,7 @@ def _table_item(items, words):
     if not items:
         return _told_number(words, "lines", MOST_LINES)
     lot = _worded_numbers(words, "lot", items[0])
-    if lot is None or len(items) > MOST_TABLE_LOTS:
-        return None
-    return lot if is_ascending(lot, items[0]) else None
+    return lot if is_ascending(lot, items[0]) and len(items) <= MOST_TABLE_LOTS else None
 
 
 def _net_item(items, words):

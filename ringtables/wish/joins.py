@@ -71,10 +71,10 @@ def net_put(net, line, other):
 
 def is_recipe(value):
     """Tell whether the value is a recipe."""
-    if not isinstance(value, tuple) or not all([is_whole(item) or _is_word(item) for item in value]):
+    if not isinstance(value, tuple) or not all([is_whole(item) or item in _WORDS for item in value]):
         return False
     contacts = [item for item in value if is_whole(item)]
-    if not 1 <= len(contacts) <= MOST_CONTACTS or sorted(contacts) != list(range(len(contacts))):
+    if len(contacts) > MOST_CONTACTS or sorted(contacts) != list(range(len(contacts))):
         return False
     lying = 0
     for item in value:
@@ -134,10 +134,6 @@ def is_recipe_or_pair(wishes, value):
     if not is_worded(value, "pair", 3) or not is_wish(wishes, value[1]) or not is_cut_of(wishes, value[2]):
         return False
     return len([contact for contact in value[1] if contact in value[2]]) > 1
-
-
-def _is_word(item):
-    return isinstance(item, str) and item in _WORDS
 
 
 def _counted_on(wishes, many):
