@@ -97,7 +97,8 @@ class Deeds(Case):
         for table in TABLES:
             for deed, told in [(("opposite",), opposite(table)), (("wide", (0,)), widened(table, (0,))),
                                (("long", ()), lengthened(table, ())), (("beside", BOTH), beside(table, BOTH)),
-                               (("lines", tuple(range(table.many))[::-1]), relined(table, tuple(range(table.many))[::-1]))]:
+                               (("lines", tuple(range(table.many))[::-1]),
+                                relined(table, tuple(range(table.many))[::-1]))]:
                 bench = Bench(table)
                 bench.do(deed)
                 self.assertEqual(bench.table, told)
@@ -128,14 +129,16 @@ class Deeds(Case):
 
     def test_not_deeds(self):
         no_lots = [(7,), (1, 0), [0], None, True, "0", (True,), (0, 0), {}, FANO, 0, (10 ** 60,)]
-        deeds = [None, (), True, 3, "out", ["out", 0], ("out",), ("out", 0, 0), ("Out", 0), ("undo",), ("sum",), {}, FANO,
+        deeds = [None, (), True, 3, "out", ["out", 0], ("out",), ("out", 0, 0), ("Out", 0), ("undo",), ("sum",), {},
+                 FANO,
                  ("opposite", ()), ("opposite", 0), ("opposite", FANO), "opposite", ["opposite"], ("join",), (0, "out"),
                  (("out", 0),), ("out", (0,)), ("beside", None), ("beside", WHEEL), ("beside", (7, ())), ("beside",),
                  ("beside", FANO, FANO), ("net",), (None, 0), ([], 0)]
         deeds += [(word, line) for word in ("out", "join") for line in not_numbers(0, 6)]
         deeds += [(word, lot) for word in ("wide", "sum") for lot in no_lots]
         deeds += [("long", pick) for pick in no_lots + [(4,), (0, 4)]]
-        deeds += [("lines", order) for order in no_lots + [tuple(range(6)), tuple(range(8)), (0,) * 7, list(range(7)), (),
+        deeds += [("lines", order) for order in no_lots + [tuple(range(6)), tuple(range(8)), (0,) * 7, list(range(7)),
+                                                           (),
                                                           (False, 1, 2, 3, 4, 5, 6), (1, 2, 3, 4, 5, 6, 7), ("0",) * 7]]
         for start in (0, 2):
             bench = Bench(FANO)
@@ -334,7 +337,8 @@ class Kinds(Case):
             self.assertEqual(len(told), len(parts(table)))
 
     def test_wrong(self):
-        no_kinds = ["five", "Flat", "", None, True, 0, (), ("flat",), ["flat"], {}, FANO, "flats", 10 ** 60, KINDS, WHEEL]
+        no_kinds = ["five", "Flat", "", None, True, 0, (), ("flat",), ["flat"], {}, FANO, "flats", 10 ** 60, KINDS,
+                    WHEEL]
         for value in no_kinds:
             for call in ((value, "net"), ("net", value), (value, "x"), (value, None)):
                 with self.assertRaises(UnknownName) as caught:
@@ -382,7 +386,8 @@ class LedNets(Case):
 
     def test_wrong(self):
         deeds = [None, (), ("out", 6), ("out", -1), ("join", True), ("out",), ("lines", (0, 1, 2, 3, 4)), ("opposite",),
-                 ("lines", (0,) * 6), ("wide", (0,)), ("sum", (0, 1)), ("beside", ROUNDS), ("long", ()), ["out", 0], "out",
+                 ("lines", (0,) * 6), ("wide", (0,)), ("sum", (0, 1)), ("beside", ROUNDS), ("long", ()), ["out", 0],
+                 "out",
                  ("lines", [0, 1, 2, 3, 4, 5]), ("lines", (True, 0, 2, 3, 4, 5)), FANO, {}, 3, ("out", 0, 0)]
         wrongs = [(InvalidNet, NOT_NETS), (InvalidOperation, deeds)]
         self.check_wrong(led_net, (WHEEL, ("out", 0)), wrongs)

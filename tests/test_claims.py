@@ -1,5 +1,6 @@
 """Stage 24: claims, and one judge."""
 
+import functools
 import itertools
 import random
 import time
@@ -20,10 +21,10 @@ from ringtables.sign.signs import are_right_signs, net_signs, sign_count, signs_
 from ringtables.table.parts import beside
 from ringtables.table.tables import Table, opposite
 from ringtables.wish.lists import list_of_table
-from tests.support import ALL1, BOTH, CROSS, EVEN24, FANO, NONE1, NONE24, NOT_TABLES, ONE24, ROUNDS, SPLIT, STARS, STRANGE
-from tests.support import TWOS, WHEEL, Case, bridges_by, clashes_by, cuts_by, hanging_net, is_row_by, not_lots, odd
-from tests.support import not_numbers, picked_tables, rings_of, rows_by, sides_by, small_tables, subsets, sums_of
-from tests.support import table_sums, twists, unlike_net, whole_net
+from tests.support import ALL1, BOTH, CROSS, EVEN24, FANO, NONE1, NONE24, NOT_TABLES, ONE24, ROUNDS, SPLIT, STARS
+from tests.support import STRANGE, TWOS, WHEEL, Case, bridges_by, clashes_by, cuts_by, hanging_net, is_row_by, not_lots
+from tests.support import not_numbers, odd, picked_tables, rings_of, rows_by, sides_by, small_tables, subsets
+from tests.support import sums_of, table_sums, twists, unlike_net, whole_net
 from tests.test_lists import BRIDGE, EACH12, LISTS, ONE, TWO, WIDE, is_odd_by, not_lists
 from tests.test_poles import DELTA, does_by
 from tests.test_signs import RIGHT, TEN
@@ -31,7 +32,8 @@ from tests.test_ways import ways_by
 
 CHANCE = random.Random(151)
 FIVE, SIX, FOURS = told_table("five"), told_table("six"), opposite(FANO)
-WORDS = {"sum": "test", "ring": "cut", "even": "odd", "net": "stopped", "free": "barred", "signed": "bare", "flat": "bent",
+WORDS = {"sum": "test", "ring": "cut", "even": "odd", "net": "stopped", "free": "barred", "signed": "bare",
+         "flat": "bent",
          "done": "undone", "way": "no way", "each": "some"}
 LED = [("flat", "net"), ("flat", "free"), ("flat", "signed"), ("net", "signed"), ("free", "signed"), ("bare", "barred"),
        ("barred", "bent")]
@@ -99,6 +101,20 @@ def form_with(wishes, many):
     return lots
 
 
+@functools.lru_cache(None)
+def known(many, form):
+    """The rings and the cuts of a table, told once."""
+    table = Table(many, form)
+    return rings_of(table_sums(table)), cuts_by(table)
+
+
+@functools.lru_cache(None)
+def told_bridges(many, form, cut):
+    """The number of the bridges of a cut, and which of them clash, told once."""
+    table = Table(many, form)
+    return len(bridges_by(table, cut)), clashes_by(table, cut)
+
+
 def is_paper(claim, value):
     """Whether a value of the right form is a paper of a claim, by what the claim says."""
     word, about, things = claim[0], claim[1], claim[2:]
@@ -107,15 +123,13 @@ def is_paper(claim, value):
             int(line in things[0]) for line in range(about.many)]
     if word == "test":
         return odd(value, things[0]) and not any(odd(value, lot) for lot in about.lots)
+    rings, told = known(about.many, about.form)
     if word == "ring":
-        return (value in rings_of(table_sums(about)) and things[0] in value
-                and set(value) <= {things[0], *things[1]})
+        return value in rings and things[0] in value and set(value) <= {things[0], *things[1]}
     if word == "cut":
-        return value in cuts_by(about) and things[0] in value and not set(value) & set(things[1])
-    pairs = clashes_by(about, things[0])
-    if word == "even":
-        return value in sides_by(len(bridges_by(about, things[0])), pairs)
-    return is_row_by(len(bridges_by(about, things[0])), pairs, value)
+        return value in told and things[0] in value and not set(value) & set(things[1])
+    many, pairs = told_bridges(about.many, about.form, things[0])
+    return value in sides_by(many, pairs) if word == "even" else is_row_by(many, pairs, value)
 
 
 class Claims(Case):
@@ -140,16 +154,20 @@ class Claims(Case):
                 self.assertEqual(opposite_claim((word, claims)), (other, tuple(opposite_claim(one) for one in claims)))
 
     def test_no_claims(self):
-        wrong = [("nets", FANO), ("net",), ("net", FANO, ()), ("net", WHEEL), ["net", FANO], ("each", ()), ("each", FANO),
+        wrong = [("nets", FANO), ("net",), ("net", FANO, ()), ("net", WHEEL), ["net", FANO], ("each", ()),
+                 ("each", FANO),
                  ("each", (("net", FANO),) * 9), ("some", ()), ("some", [("net", FANO)]), ("each", ("net", FANO)),
                  ("each", (("each", (("net", FANO),)),)), ("some", (("each", (("net", FANO),)),)),
-                 ("each", (("net", FANO), ("net", WHEEL))), ("each",), ("each", (("net", FANO),), ()), ("way", FANO, ()),
+                 ("each", (("net", FANO), ("net", WHEEL))), ("each",), ("each", (("net", FANO),), ()),
+                 ("way", FANO, ()),
                  ("no way", FANO, ()), ("way", NONE24, (0,)), ("no way", ONE24, (0,)), ("way", FANO, (7,)),
                  ("even", FANO, ()), ("odd", ROUNDS, (0, 1)), ("even", FANO, (0, 1, 3)), ("ring", FANO, 7, ()),
                  ("ring", FANO, 0, (0, 1)), ("cut", FANO, 1, (0, 1)), ("ring", FANO, 0, (7,)), ("ring", FANO, 0),
-                 ("cut", FANO, True, ()), ("sum", FANO), ("sum", FANO, (7,)), ("test", FANO, [0]), ("test", FANO, (0,), ()),
+                 ("cut", FANO, True, ()), ("sum", FANO), ("sum", FANO, (7,)), ("test", FANO, [0]),
+                 ("test", FANO, (0,), ()),
                  ("done", ((1,),)), ("undone", ()), ("done", FANO), ("done", TWO, TWO), ("signed", Table(17, ())),
-                 ("bare", NONE24), ("flat", None), ("bent", (FANO,)), (True, FANO), ("", FANO), (("net",), FANO), ([], FANO)]
+                 ("bare", NONE24), ("flat", None), ("bent", (FANO,)), (True, FANO), ("", FANO), (("net",), FANO),
+                 ([], FANO)]
         for claim in wrong + NOT_TABLES + not_lists() + list(STRANGE):
             self.check_refused(claim)
         for word in WORDS:
@@ -163,7 +181,8 @@ class Claims(Case):
             self.check_refused(("undone", wishes))
         for lot in not_lots(6):
             for claim in (("sum", ROUNDS, lot), ("test", ROUNDS, lot), ("even", ROUNDS, lot), ("odd", ROUNDS, lot),
-                          ("way", ROUNDS, lot), ("no way", ROUNDS, lot), ("ring", ROUNDS, 5, lot), ("cut", ROUNDS, 5, lot)):
+                          ("way", ROUNDS, lot), ("no way", ROUNDS, lot), ("ring", ROUNDS, 5, lot),
+                          ("cut", ROUNDS, 5, lot)):
                 self.check_refused(claim)
         for line in not_numbers(0, 5):
             self.check_refused(("ring", ROUNDS, line, ()))
@@ -187,7 +206,8 @@ class Claims(Case):
                 self.assertIs(does_take(other, WHEEL), False)
 
     def test_edges(self):
-        for claim in [("each", (("net", FANO),)), ("some", (("net", FANO),) * 8), ("way", Table(23, ()), tuple(range(23))),
+        for claim in [("each", (("net", FANO),)), ("some", (("net", FANO),) * 8),
+                      ("way", Table(23, ()), tuple(range(23))),
                       ("signed", Table(16, ())), ("bare", Table(16, ())), ("net", NONE24), ("sum", NONE24, ()),
                       ("ring", NONE1, 0, ()), ("cut", ALL1, 0, ()), ("even", NONE1, (0,)), ("done", WIDE)]:
             self.assertIs(is_claim(claim), True)
@@ -208,7 +228,7 @@ class Papers(Case):
     def test_sides_and_rows(self):
         taken = 0
         for claim in [claim for claim in BOTHS if claim[0] in ("even", "odd")]:
-            many, pairs = len(bridges_by(*claim[1:])), clashes_by(*claim[1:])
+            many, pairs = told_bridges(claim[1].many, claim[1].form, claim[2])
             if many < 5:
                 values = list(itertools.product((0, 1), repeat=many)) + rows_by(many, pairs) + [()]
                 values += list(itertools.permutations(range(many), min(many, 3)))
@@ -356,7 +376,8 @@ class JustOne(Case):
                 self.assertLess(time.perf_counter() - before, 4)
         sixteen = Table(16, tuple(tuple(sorted([k] + [line for line in range(8, 16) if CHANCE.random() < 0.5]))
                                   for k in range(8)))
-        for claims in (("each", (("signed", sixteen),) * 8), ("some", (("bare", table_of(hanging_net(CHANCE, 9, 16))),) * 8),
+        hanging = table_of(hanging_net(CHANCE, 9, 16))
+        for claims in (("each", (("signed", sixteen),) * 8), ("some", (("bare", hanging),) * 8),
                        ("each", (("done", WIDE), ("done", EACH12))), ("some", (("undone", EACH12),) * 8)):
             before = time.perf_counter()
             true, value = settled(claims)

@@ -307,7 +307,8 @@ class Recipes(Case):
     def test_judged(self):
         for wishes in LISTS[::6] + [TWO, BRIDGE]:
             told, lots = cuts_by_trial(wishes), subsets(contacts(wishes))[:40]
-            self.check_judged(is_recipe_or_pair, (wishes,), [("pair", a, b) for a in lots for b in lots], lambda value: (
+            values = [("pair", a, b) for a in lots for b in lots]
+            self.check_judged(is_recipe_or_pair, (wishes,), values, lambda value: (
                 value[1] in wishes and value[2] in told and len(set(value[1]) & set(value[2])) > 1))
         self.check_takes(is_recipe_or_pair, (((0, 1), (2,)),), ("recipe", (0, 1, "and", 2, "or")))
         self.check_takes(is_recipe_or_pair, (((0, 1), (2,)),), ("recipe", (2, 1, 0, "and", "or")))
@@ -325,7 +326,8 @@ class Recipes(Case):
             self.assertIs(is_recipe(value), True)
         wrong = [(), ("and",), (0, "and"), ("and", 0, 1), (0, "or", 1), (0, 1), (0, 1, "and", "or"), (0, 1, 2, "and"),
                  (0, 0, "and"), (0, 2, "and"), (1,), (1, 2, "or"), (0, 1, "nand"), (0, 1, "And"), (0, 1, ("and",)),
-                 (False, 1, "and"), (0, True, "and"), [0, 1, "and"], (0, 1, "and", None), (0, 10 ** 60, "or"), (-1, 0, "or"),
+                 (False, 1, "and"), (0, True, "and"), [0, 1, "and"], (0, 1, "and", None), (0, 10 ** 60, "or"),
+                 (-1, 0, "or"),
                  tuple(range(13)) + ("or",) * 12, "0", ("0",), (0, 1, ["or"]), (0, 1, ""), (0, 1, "and", 2, "or", "or"),
                  (0, "and", 1, "or", 2), (0, 1, "or", 2, 3, "and")]
         for value in wrong:

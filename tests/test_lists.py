@@ -54,7 +54,8 @@ def odd_lists():
     tables += [table_of(hanging_net(CHANCE, 5, 9)) for _ in range(15)] + [ROUNDS, FANO, opposite(FANO), SPLIT]
     for table in tables:
         line = CHANCE.randrange(table.many)
-        lots = [tuple(k - (k > line) for k in ring if k != line) for ring in rings_of(table_sums(table)) if line in ring]
+        lots = [tuple(k - (k > line) for k in ring if k != line) for ring in rings_of(table_sums(table))
+                if line in ring]
         found.append((table, line, tuple(sorted(lots))))
     return found
 

@@ -14,8 +14,8 @@ from ringtables.net.nets import Net, is_net_of, net_beside, table_of
 from ringtables.table.parts import does_hang
 from ringtables.table.tables import opposite
 from ringtables.wish.lists import cuts_of, is_list, list_of_table, odd_or_pair, table_of_list
-from ringtables.wish.poles import is_conducting, is_net_or_paper, is_way, is_way_or_shore, net_or_paper, rims, way_or_shore
-from ringtables.wish.poles import ways, wishes_of, with_pole_line
+from ringtables.wish.poles import is_conducting, is_net_or_paper, is_way, is_way_or_shore, net_or_paper, rims
+from ringtables.wish.poles import way_or_shore, ways, wishes_of, with_pole_line
 from tests.support import FANO, NOT_NETS, ROUNDS, STRANGE, WHEEL, Case, cuts_by, hanging_net, not_lots, picked_nets
 from tests.support import rings_of, subsets, table_sums, unlike_net
 from tests.test_lists import BRIDGE, EACH12, FOURS12, LISTS, ODD, ONE, PAIRS12, TWO, WIDE, contacts, cuts_by_trial
@@ -146,8 +146,8 @@ class ThroughThePoles(Case):
         for net in [net for net in NETS if net.knots < 7][::6] + [DELTA, APART]:
             for shut in subsets(range(len(net.lines)))[::7]:
                 told = [way for way in ways_by(net) if set(way) <= set(shut)]
-                self.check_judged(is_way_or_shore, (net, shut), [("way", lot) for lot in subsets(range(len(net.lines)))],
-                                  lambda value: value[1] in told)
+                lots = [("way", lot) for lot in subsets(range(len(net.lines)))]
+                self.check_judged(is_way_or_shore, (net, shut), lots, lambda value: value[1] in told)
                 self.check_judged(is_way_or_shore, (net, shut), [("shore", lot) for lot in subsets(range(net.knots))],
                                   lambda value: 0 in value[1] and 1 not in value[1]
                                   and not set(rim_of(net, value[1])) & set(shut))
@@ -297,7 +297,8 @@ class ExactlyIf(Case):
             for value in STRANGE:
                 for word in ("net", "barred"):
                     self.assertIs(is_net_or_paper(wishes, (word, value)), False)
-        for net in (Net(1, ((0, 0),) * 5), Net(4, DELTA.lines + ((0, 1),)), Net(4, DELTA.lines[:-1]), Net(2, ((0, 1),) * 13),
+        for net in (Net(1, ((0, 0),) * 5), Net(4, DELTA.lines + ((0, 1),)), Net(4, DELTA.lines[:-1]),
+                    Net(2, ((0, 1),) * 13),
                     Net(4, DELTA.lines + ((2, 2),)), Net(1, ((0, 0),) * 24)):
             self.assertIs(is_net_or_paper(BRIDGE, ("net", net)), False)
         for value in (("odd",), ("net",), ("odd", DELTA), ("even", (0, 1), (0, 3)), ("stop", (), ()), ("bar", (), ())):

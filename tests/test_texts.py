@@ -5,7 +5,8 @@ import re
 import time
 
 import ringtables.text.texts as module
-from ringtables.errors import InvalidList, InvalidNet, InvalidOperation, InvalidSigns, InvalidTable, InvalidText, ParseError
+from ringtables.errors import InvalidList, InvalidNet, InvalidOperation, InvalidSigns, InvalidTable, InvalidText
+from ringtables.errors import ParseError
 from ringtables.main.bars import is_bar, net_or_bar, told_table
 from ringtables.net.nets import Net, table_of
 from ringtables.sign.signs import signs_or_bar
@@ -26,7 +27,8 @@ NAMES = tuple(range(7))
 LONGER = Table(8, ((0, 1, 3), (1, 2, 4), (2, 3, 5), (3, 4, 6), (0, 7)))
 LONG_BAR = ("seven", (("out", 0),), (6, 0, 1, 2, 3, 4, 5))
 FEW = Table(2, ((0, 1),))
-TABLES = small_tables(2) + picked_tables(132, 40, 1, 24) + [FANO, BOTH, ROUNDS, NONE24, ALL24, EVEN24, ONE24, NONE1, ALL1,
+TABLES = small_tables(2) + picked_tables(132, 40, 1, 24) + [FANO, BOTH, ROUNDS, NONE24, ALL24, EVEN24, ONE24, NONE1,
+                                                            ALL1,
                                                            Table(3, ((), (0, 1), (0, 1), ())), Table(1, ((),) * 24)]
 NETS = picked_nets(133, 30, 25, 24) + [WHEEL, Net(1, ((0, 0),)), Net(25, ((0, 24),) * 24)]
 BARS = [(FANO, ("seven", (), NAMES)), (LONGER, LONG_BAR), (FIVE, ("five", (), tuple(range(10)))),
@@ -150,8 +152,10 @@ def bent(text):
         found.append(text[:at])
         k = CHANCE.randrange(len(lines))
         other = lines[k].split(" ")
-        other[CHANCE.randrange(len(other))] = CHANCE.choice(("0", "1", "-1", "-0", "00", "07", "24", "23", "25", "+1", "2",
-                                                             "1.0", "", "1e1", "0x1", "out", "lot", "names", "9" * 5000))
+        other[CHANCE.randrange(len(other))] = CHANCE.choice(("0", "1", "-1", "-0", "00", "07", "24", "23", "25", "+1",
+                                                             "2",
+                                                             "1.0", "", "1e1", "0x1", "out", "lot", "names",
+                                                             "9" * 5000))
         found.append("\n".join(lines[:k] + [" ".join(other)] + lines[k + 1:]))
         found.append("\n".join(lines[:k] + lines[k + 1:]))
         found.append("\n".join(lines[:k] + lines[k:k + 1] * 2 + lines[k + 1:]))
@@ -251,12 +255,15 @@ class FirstWrongLine(Texts):
 
     def test_tables(self):
         self.check_told(read_table, (), [
-            ("", 0), ("\n", 0), ("lines 7", 0), ("lines 0\n", 0), ("lines 25\n", 0), ("lines 07\n", 0), ("lines -1\n", 0),
-            ("lines\n", 0), ("lines 7 7\n", 0), (" lines 7\n", 0), ("lines  7\n", 0), ("lines 7 \n", 0), ("lots 7\n", 0),
+            ("", 0), ("\n", 0), ("lines 7", 0), ("lines 0\n", 0), ("lines 25\n", 0), ("lines 07\n", 0),
+            ("lines -1\n", 0),
+            ("lines\n", 0), ("lines 7 7\n", 0), (" lines 7\n", 0), ("lines  7\n", 0), ("lines 7 \n", 0),
+            ("lots 7\n", 0),
             ("lines 7\n\n", 1), ("lines 7\nlot 0 7\n", 1), ("lines 7\nlot 1 0\n", 1), ("lines 7\nlot 0 0\n", 1),
             ("lines 7\nlot 0  1\n", 1), ("lines 7\nlot 0 1", 1), ("lines 7\nlot \n", 1), ("lines 7\nlot -0\n", 1),
             ("lines 7\nlot 00\n", 1), ("lines 7\nlot 0 x\n", 1), ("lines 7\nlot\nlot", 2), ("lines 7\nlines 7\n", 1),
-            ("lines 7\nlot 0 7\nlot 8", 1), ("lines 1\n" + "lot 0\n" * 25, 25), ("lines 1\n" + "lot 0\n" * 25 + "x", 25),
+            ("lines 7\nlot 0 7\nlot 8", 1), ("lines 1\n" + "lot 0\n" * 25, 25),
+            ("lines 1\n" + "lot 0\n" * 25 + "x", 25),
             ("lines 1\n" + "lot 0\n" * 24 + "lot 0", 25), ("lines 1\n" + "lot 0\n" * 23 + "lot 0", 24),
             ("knots 7\n", 0), ("lines " + "1" * 199990 + "\n", 0), ("lines 2\nlot " + "0" * 150000 + "\n", 1),
             ("lines 24\nlot" + " 0" * 90000 + "\n", 1), ("\n" * 200000, 0), ("lines 2" + "\n" * 199993, 1)])
@@ -287,15 +294,18 @@ class FirstWrongLine(Texts):
             ("seven\n" + names + "\n", 2), ("seven\n" + names + "out 0\n", 2), ("seven\nnames 0 1 2 3 4 5 24\n", 1),
             ("seven\nnames 0 1 2 3 4 5 23\n", 2), ("seven\nnames 0 1 2 3 4 5\n", 2), ("fours\n" + names, 2),
             ("seven\nnames 1 0 2 3 4 5 6\n", 2), ("seven\nout 24\n" + names, 1), ("seven\nout 23\n" + names, 3),
-            ("seven\nout 0\n", 2), ("seven\nout\n" + names, 1), ("seven\nout 0 0\n" + names, 1), ("seven\n\n" + names, 1),
+            ("seven\nout 0\n", 2), ("seven\nout\n" + names, 1), ("seven\nout 0 0\n" + names, 1),
+            ("seven\n\n" + names, 1),
             ("seven\n" + "out 0\n" * 25 + names, 25), ("seven\n" + "out 0\n" * 24 + names, 26),
             ("seven\n" + "out 0\n" * 24, 25), ("seven\n" + "out 0\n" * 24 + "x", 25), ("seven\nnames 0 0 0\n", 2),
             ("seven\nnames" + " 0" * 90000 + "\n", 2), ("seven\nnames" + " 0" * 90000 + " 24\n", 1)])
 
     def test_signs(self):
         self.check_told(read_signs, (FEW,), [
-            ("", 0), ("row 1 1", 0), ("row 1\n", 0), ("row 1 1 0\n", 0), ("row 1 2\n", 0), ("row 1 -0\n", 0), ("row\n", 0),
-            ("row 1 +1\n", 0), ("row 1  1\n", 0), ("lot 1 1\n", 0), ("row -1 1\n", 1), ("row 1 0\n", 1), ("row 0 0\n", 1),
+            ("", 0), ("row 1 1", 0), ("row 1\n", 0), ("row 1 1 0\n", 0), ("row 1 2\n", 0), ("row 1 -0\n", 0),
+            ("row\n", 0),
+            ("row 1 +1\n", 0), ("row 1  1\n", 0), ("lot 1 1\n", 0), ("row -1 1\n", 1), ("row 1 0\n", 1),
+            ("row 0 0\n", 1),
             ("row 1 1\nrow 1 1\n", 1), ("row 1 1\n\n", 1), ("row 1 1\nx", 1), ("row 1 01\n", 0)])
         self.check_told(read_signs, (NONE24,), [("row" + " 0" * 24 + "\n", 0), ("\n", 0)])
         self.assertEqual(read_signs(FEW, "row 1 1\n"), ((1, 1),))
@@ -304,12 +314,14 @@ class FirstWrongLine(Texts):
 
     def test_lists(self):
         self.check_told(read_list, (), [
-            ("", 0), ("wish\n", 0), ("wish 0", 0), ("wish 1\n", 1), ("wish 12\n", 0), ("wish 0 0\n", 0), ("wish 1 0\n", 0),
+            ("", 0), ("wish\n", 0), ("wish 0", 0), ("wish 1\n", 1), ("wish 12\n", 0), ("wish 0 0\n", 0),
+            ("wish 1 0\n", 0),
             ("wish 0\nwish 0\n", 1), ("wish 1\nwish 0\n", 1), ("wish 0\nwish 0 1\n", 2), ("wish 0\nwish 2\n", 2),
             ("wish 0 1\nwish 0 1 2\nwish 3\n", 3), ("wish 0 1\nwish 0\n", 1), ("lot 0\n", 0), ("wish 0\n\n", 1)])
         lines = ["wish " + " ".join(map(str, wish)) + "\n" for wish in WIDE]
         self.assertEqual(read_list("".join(lines)), WIDE)
-        self.check_told(read_list, (), [("".join(lines) + "wish 1 2 3 4 5 6\n", 100), ("".join(lines) + "wish 11\n", 100),
+        self.check_told(read_list, (), [("".join(lines) + "wish 1 2 3 4 5 6\n", 100),
+                                        ("".join(lines) + "wish 11\n", 100),
                                         ("".join(lines[:99]) + "wish 11\n", 100), ("".join(lines)[:-1], 99)])
 
 
@@ -351,11 +363,14 @@ class Wrong(Texts):
             self.check_wrong(read, (BOTH, text), [tables, texts])
         for read in (read_table, read_net, read_list):
             self.check_wrong(read, ("x",), [texts])
-        steps = (InvalidOperation, [None, 3, [], (("out", 5),), (("out", 0),) * 5, ("out", 0), (("out", True),), "out 0",
-                                    (("Out", 0),), (("out", 0, 0),), (["out", 0],), {}, FANO, (("out", 4), ("join", 4))])
+        steps = (InvalidOperation, [None, 3, [], (("out", 5),), (("out", 0),) * 5, ("out", 0), (("out", True),),
+                                    "out 0",
+                                    (("Out", 0),), (("out", 0, 0),), (["out", 0],), {}, FANO,
+                                    (("out", 4), ("join", 4))])
         self.check_wrong(steps_text, (BOTH, (("out", 0),)), [tables, steps])
         bars = (InvalidOperation, [None, (), ("seven", ()), ("fours", (), NAMES), ("seven", (), NAMES[::-1]),
-                                   ["seven", (), NAMES], ("seven", [], NAMES), ("seven", (), list(NAMES)), FANO, "seven",
+                                   ["seven", (), NAMES], ("seven", [], NAMES), ("seven", (), list(NAMES)), FANO,
+                                   "seven",
                                    ("seven", (("out", 7),), NAMES), {}, 3, (True, (), NAMES)])
         self.check_wrong(bar_text, (FANO, ("seven", (), NAMES)), [tables, bars])
         signs = (InvalidSigns, [None, (), ONES[:2], ONES + ONES[:1], list(ONES), True, "signs", {}, FANO, ONES[::-1],

@@ -152,7 +152,8 @@ class AllAlong(Case):
         for letter, value in zip(forms, paper[1:]):
             other = opposite(table)
             right = {"n": lambda: is_net_with(table, value), "o": lambda: is_net_with(other, value),
-                     "b": lambda: is_bar_of(other if told == "net" else table, value), "x": lambda: is_bar_of(other, value),
+                     "b": lambda: is_bar_of(other if told == "net" else table, value),
+                     "x": lambda: is_bar_of(other, value),
                      "s": lambda: are_right_by(table, value),
                      "B": lambda: is_bar_of(table, value) and value[0] in ("seven", "fours")}[letter]()
             self.assertTrue(right, (told, letter))
