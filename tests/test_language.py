@@ -15,6 +15,9 @@ METHODS = set("""append clear copy count endswith extend find get index insert i
 LIBRARY = {"math": {"gcd", "lcm", "isqrt", "comb", "perm", "factorial"},
            "itertools": {"product", "combinations", "permutations"}}
 DUNDERS = {"__init__", "__eq__", "__str__", "__repr__", "__len__"}
+# A list or dict at a file's top is read where it stands by these, or copied; each answers with no other name for it.
+READING = set("len enumerate zip min max sum abs sorted reversed any all list tuple dict set".split())
+READING_METHODS = set("copy count get index items keys values".split())
 REFUSED = (ast.Global, ast.AsyncFunctionDef, ast.AsyncFor, ast.AsyncWith, ast.Await, ast.Div, ast.MatMult,
            ast.GeneratorExp, ast.Set, ast.SetComp, ast.Yield, ast.YieldFrom, ast.Try, ast.Starred)
 
@@ -29,6 +32,41 @@ def files():
 
 def module_of(path):
     return os.path.relpath(path, ROOT)[:-3].replace(os.sep, ".")
+
+
+def is_changeable(node):
+    """Whether a value is seen to be a list or dict."""
+    if isinstance(node, ast.Call):
+        return isinstance(node.func, ast.Name) and node.func.id in ("list", "dict", "sorted")
+    return isinstance(node, (ast.List, ast.Dict, ast.ListComp, ast.DictComp))
+
+
+def changeable_names(tree):
+    """The names at a file's top that have a list or dict."""
+    return {target.id for node in tree.body if isinstance(node, ast.Assign) and is_changeable(node.value)
+            for target in node.targets}
+
+
+def is_read_in_place(node, parent, grandparent):
+    """Whether a name that has a list or dict is only read, or copied, in the node around it."""
+    if isinstance(parent, ast.Subscript):
+        return parent.value is node and isinstance(parent.ctx, ast.Load) and not isinstance(parent.slice, ast.Slice)
+    if isinstance(parent, ast.Compare):
+        return all(isinstance(kind, (ast.In, ast.NotIn, ast.Eq, ast.NotEq)) for kind in parent.ops)
+    if isinstance(parent, (ast.For, ast.comprehension)):
+        return parent.iter is node
+    if isinstance(parent, ast.Attribute):
+        is_called = isinstance(grandparent, ast.Call) and grandparent.func is parent
+        return is_called and parent.attr in READING_METHODS
+    return isinstance(parent, ast.Call) and isinstance(parent.func, ast.Name) and parent.func.id in READING
+
+
+def handed_on(tree, names):
+    """The rows of a file in which one of the names, which have lists or dicts, is not just read."""
+    above = {child: node for node in ast.walk(tree) for child in ast.iter_child_nodes(node)}
+    return [node.lineno for node in ast.walk(tree)
+            if isinstance(node, ast.Name) and node.id in names and not isinstance(node.ctx, ast.Store)
+            and not is_read_in_place(node, above[node], above[above[node]])]
 
 
 class Language(unittest.TestCase):
@@ -72,6 +110,32 @@ class Language(unittest.TestCase):
                     bound.append(node.name)
             self.assertEqual(len(bound), len(set(bound)), path)
             self.assertFalse(set(bound) & set(dir(builtins)), path)
+
+    def test_no_list_or_dict_is_handed_on(self):
+        """L15: one that stands at a file's top is read there, or copied."""
+        self.assertIn("OPPOSITES", {name for tree in self.trees.values() for name in changeable_names(tree)})
+        for path, tree in self.trees.items():
+            names = changeable_names(tree)
+            for node in tree.body:
+                if isinstance(node, ast.ImportFrom) and node.module not in LIBRARY:
+                    source = self.trees[os.path.join(ROOT, *node.module.split(".")) + ".py"]
+                    names |= {item.name for item in node.names} & changeable_names(source)
+                if isinstance(node, ast.Assign):
+                    self.assertFalse([1 for inner in ast.walk(node.value)
+                                      if inner is not node.value and is_changeable(inner)], path)
+            self.assertEqual(handed_on(tree, names), [], path)
+
+    def test_what_is_handed_on(self):
+        """The check ahead sees each way to hand one on, and lets each way to read one pass."""
+        for row in ("f(D)", "f(k=D)", "f(1, *D)", "return D", "x = D", "a, b = D", "''.join(D)", "xs.extend(D)", "xs += D",
+                    "D[0] = 1", "del D[0]", "D[0] += 1", "D.update(x)", "D.append(1)", "D.pop()", "x = [D]", "x = (1, D)",
+                    "x = D if a else b", "x = D or a", "f(dict(a) if a else D)", "x = D.get", "x = D[1:]", "a.b(D)"):
+            self.assertEqual(handed_on(ast.parse(f"def g():\n    {row}\n"), {"D"}), [2], row)
+        for row in ("f(dict(D))", "f(list(D))", "x = D[0]", "f(D[k])", "x = a in D", "x = a not in D", "x = D == a",
+                    "x = len(D)", "x = D.get(a)", "x = sorted(D)", "x = [a for a in D]", "x = D[a] if a in D else 0",
+                    "x = [a for a, b in D.items()]", "x = D.copy()"):
+            self.assertEqual(handed_on(ast.parse(f"def g():\n    {row}\n"), {"D"}), [], row)
+        self.assertEqual(handed_on(ast.parse("D = {}\nE = D\nF = (1, D)\n"), {"D"}), [2, 3])
 
     def test_imports(self):
         names = {module_of(path) for path in self.trees}

@@ -309,8 +309,25 @@ class FirstWrongLine(Texts):
             ("row 1 1\nrow 1 1\n", 1), ("row 1 1\n\n", 1), ("row 1 1\nx", 1), ("row 1 01\n", 0)])
         self.check_told(read_signs, (NONE24,), [("row" + " 0" * 24 + "\n", 0), ("\n", 0)])
         self.assertEqual(read_signs(FEW, "row 1 1\n"), ((1, 1),))
+        self.assertEqual(read_signs(FEW, "row 1 -1\n"), ((1, -1),))
         # Not right ones are signs, too.
         self.assertEqual(read_signs(ROUNDS, signs_text(ROUNDS, ONES)), ONES)
+
+    def test_numbers_of_signs(self):
+        words = signs_text(ROUNDS, RIGHT).split("\n")[:-1]
+        self.assertEqual({word for row in words for word in row.split(" ")}, {"row", "-1", "0", "1"})
+        for k in range(len(words)):
+            for at in range(1, ROUNDS.many + 1):
+                for other in ("2", "-2", "-0", "+1", "01", "--1", "-", "", "1.0", "True", "x", "9" * 60):
+                    row = words[k].split(" ")
+                    row[at] = other
+                    text = "\n".join(words[:k] + [" ".join(row)] + words[k + 1:]) + "\n"
+                    self.check_error(ParseError, {"spot": k}, read_signs, ROUNDS, text)
+        self.assertEqual(read_signs(ROUNDS, signs_text(ROUNDS, RIGHT)), RIGHT)
+        # These numbers are right in each row, so the whole is told to make no signs.
+        for number in ("-1", "0", "1"):
+            row = "row" + f" {number}" * ROUNDS.many + "\n"
+            self.check_error(ParseError, {"spot": 3}, read_signs, ROUNDS, row * 3)
 
     def test_lists(self):
         self.check_told(read_list, (), [

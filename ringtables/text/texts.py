@@ -188,7 +188,7 @@ def _bar_item(items, words):
 
 def _sign_row(words, table, count):
     """A row of the signs, when so many are there."""
-    row = _numbers(words[1:], _SIGNS) if words[0] == "row" else None
+    row = _numbers(words[1:], dict(_SIGNS)) if words[0] == "row" else None
     return row if row is not None and len(row) == table.many and count < table.size else None
 
 
