@@ -127,9 +127,10 @@ class Language(unittest.TestCase):
 
     def test_what_is_handed_on(self):
         """The check ahead sees each way to hand one on, and lets each way to read one pass."""
-        for row in ("f(D)", "f(k=D)", "f(1, *D)", "return D", "x = D", "a, b = D", "''.join(D)", "xs.extend(D)", "xs += D",
-                    "D[0] = 1", "del D[0]", "D[0] += 1", "D.update(x)", "D.append(1)", "D.pop()", "x = [D]", "x = (1, D)",
-                    "x = D if a else b", "x = D or a", "f(dict(a) if a else D)", "x = D.get", "x = D[1:]", "a.b(D)"):
+        for row in ("f(D)", "f(k=D)", "f(1, *D)", "return D", "x = D", "a, b = D", "''.join(D)", "xs.extend(D)",
+                    "xs += D", "D[0] = 1", "del D[0]", "D[0] += 1", "D.update(x)", "D.append(1)", "D.pop()", "x = [D]",
+                    "x = (1, D)", "x = D if a else b", "x = D or a", "f(dict(a) if a else D)", "x = D.get", "x = D[1:]",
+                    "a.b(D)"):
             self.assertEqual(handed_on(ast.parse(f"def g():\n    {row}\n"), {"D"}), [2], row)
         for row in ("f(dict(D))", "f(list(D))", "x = D[0]", "f(D[k])", "x = a in D", "x = a not in D", "x = D == a",
                     "x = len(D)", "x = D.get(a)", "x = sorted(D)", "x = [a for a in D]", "x = D[a] if a in D else 0",
